@@ -1,0 +1,1 @@
+"""Wherewritten: names that mean what they meant where they were written."""

@@ -1,0 +1,82 @@
+"""Turning terms into blocks of steps."""
+
+from wherewritten.applying import PatternProcedure, RulesProcedure, TemplateProcedure
+from wherewritten.machine import (
+    Block, do_call, do_close, do_drop, do_fill, do_jump, do_local, do_return, do_set, do_unless,
+    do_value,
+)
+from wherewritten.rules import Rules
+from wherewritten.values import value_of
+
+
+def _value_of_term(term):
+    """Return the value of a term whose value does not hang on variables."""
+    kind = term[0]
+    if kind == "const":
+        return value_of(term[1])
+    if kind == "rules":
+        return ("rules", RulesProcedure(Rules(term[1])))
+    if kind == "pattern":
+        return ("pattern", PatternProcedure(term[1]))
+    if kind == "template":
+        return ("template", TemplateProcedure(term[1], term[2]))
+    return (kind, term[1])
+
+
+def _add_local(block, term):
+    hops, place = block.address(term[1])
+    block.add_step(do_local, hops, place, term[2])
+
+
+def _add_set(block, variable):
+    hops, place = block.address(variable[1])
+    block.add_step(do_set, hops, place, variable[2])
+
+
+def _add_term(block, term, is_last):
+    """Add the steps of a term to a block; is_last tells whether the block ends behind them."""
+    kind = term[0]
+    block.cost += 1
+    if kind == "local":
+        _add_local(block, term)
+    elif kind == "fn":
+        inner = Block(block, term[1])
+        _add_term(inner, term[2], True)
+        inner.add_step(do_return)
+        block.add_step(do_close, inner)
+    elif kind == "call":
+        for part in (term[1], *term[2]):
+            _add_term(block, part, False)
+        block.add_step(do_call, len(term[2]), term[3], is_last)
+    elif kind == "if":
+        _add_term(block, term[1], False)
+        unless = block.add_jump(do_unless)
+        _add_term(block, term[2], is_last)
+        jump = block.add_jump(do_jump)
+        block.land(unless)
+        _add_term(block, term[3], is_last)
+        block.land(jump)
+    elif kind == "do":
+        for part in term[1][:-1]:
+            _add_term(block, part, False)
+            block.add_step(do_drop)
+        _add_term(block, term[1][-1], is_last)
+    elif kind == "rec":
+        block.bind([variable for variable, _ in term[1]])
+        for variable, part in term[1]:
+            _add_term(block, part, False)
+            block.add_step(do_fill, block.places[variable])
+        _add_term(block, term[2], is_last)
+    elif kind == "set":
+        _add_term(block, term[2], False)
+        _add_set(block, term[1])
+    else:
+        block.add_step(do_value, _value_of_term(term))
+
+
+def block_of(term):
+    """Return the block of a term that stands in no other."""
+    block = Block(None, ())
+    _add_term(block, term, True)
+    block.add_step(do_return)
+    return block

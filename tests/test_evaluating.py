@@ -2,12 +2,16 @@ import sys
 import unittest
 
 from helper import AT, call, flag, fn, local, number, outcome, plain_list, prim, seeded, stx, syn, text
-from wherewritten.errors import RulesError, RunError
+from wherewritten.blocks import block_of
+from wherewritten.errors import RunError
 from wherewritten.evaluating import evaluate
+from wherewritten.expanding import NoExpansion
+from wherewritten.machine import Machine
 from wherewritten.reading import read
 from wherewritten.rules import Rules
 from wherewritten.syntax import depth, size
 from wherewritten.terms import primitives
+from wherewritten.values import shown
 
 LIMIT = 10 ** 30
 HERE = ("m", 77)
@@ -205,6 +209,15 @@ class TestFuel(unittest.TestCase):
         self.assertEqual(outcome(evaluate, chain, 300000), ("RunError", "fuel", None))
         self.assertEqual(outcome(evaluate, self.loop(10 ** 9, True), 1000000), ("RunError", "fuel", None))
 
+    def test_calls_at_the_end_do_not_wait(self):
+        wraps = [lambda again: again, lambda again: ("if", flag(True), again, number(1)), lambda again: ("rec", (), again),
+                 lambda again: ("if", flag(False), number(1), again), lambda again: ("do", (number(1), again))]
+        for wrap in wraps:
+            machine = Machine(5000, NoExpansion())
+            block = block_of(("rec", ((0, fn((), wrap(call(local(0))))),), call(local(0))))
+            self.assertEqual(outcome(machine.run, block), ("RunError", "fuel", None))
+            self.assertLessEqual(len(machine.waiting), 2)
+
 
 class TestPrimitives(unittest.TestCase):
     def check(self, name, *rows):
@@ -336,6 +349,8 @@ class TestBounds(unittest.TestCase):
         self.check(call("cons", number(1), const(numbers(1000)), at=HERE))
         self.assertEqual(self.many(call("list", *[number(1)] * 1000, at=HERE)), 1000)
         self.check(call("list", *[number(1)] * 1001, at=HERE))
+        self.check(call("list", *[quoted("()")] * 1000, at=HERE), "(" + " ".join(["()"] * 1000) + ")")
+        self.check(call("list", *[quoted("()")] * 1001, at=HERE))
         self.assertEqual(self.many(call("parts", stx("(" + "x " * 1000 + ")"), at=HERE)), 1000)
         self.check(call("parts", stx("(" + "x " * 1001 + ")"), at=HERE))
 
@@ -511,9 +526,6 @@ class Expansion:
 
 def expanding(term):
     """The shown value of a term while something is expanded, or the code and the occurrence of the error."""
-    from wherewritten.blocks import block_of
-    from wherewritten.machine import Machine
-    from wherewritten.values import shown
     result = outcome(Machine(1000, Expansion()).run, block_of(term))
     return shown(result[1]) if result[0] == "gives" else result[1:]
 
@@ -543,6 +555,19 @@ class TestExpanding(unittest.TestCase):
         self.assertEqual(expanding(call("free=?", stx("k"), stx("amb"), at=HERE)), ("ambiguous", HERE))
         self.assertEqual(expanding(call("bound=?", stx("fresh"), call("fresh", stx("x")))), "#t")
         self.assertEqual(expanding(call("local-value", stx("x"), at=HERE)), ("macro", HERE))
+
+
+    def test_occurrences(self):
+        # What a use is and where it was written is told by the errors of rules.
+        rules = ("rules", syn("(rules (k) ((k k) 1))"))
+        use, z = syn("(amb amb j)", module="u"), ("syntax", syn("z", (), "v"))
+        for made, told in [
+                (call("join", call("list"), z), ("match", ("v", 0))), (call("wrap", number(1), z), ("match", ("v", 0))),
+                (call("join", call("parts", ("syntax", use)), stx("1")), ("match", ("m", 0))),
+                (call("first", call("parts", ("syntax", use))), ("match", ("u", 1))),
+                (call("join", call("list", z, call("recolored", z, call("first", call("parts", ("syntax", use))))), z),
+                 ("ambiguous", ("u", 1)))]:
+            self.assertEqual(expanding(call(rules, made)), told)
 
 
 # Evaluating once more, in the plainest way: by itself.

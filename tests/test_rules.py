@@ -2,6 +2,7 @@ import unittest
 
 from helper import never, outcome, same_name, seeded, syn, text_of
 from wherewritten.errors import RulesError
+from wherewritten.patterns import PatternMaker
 from wherewritten.rules import Rules
 from wherewritten.syntax import added, depth, is_dots, occurrence_of, size
 
@@ -88,6 +89,10 @@ class TestPatternErrors(unittest.TestCase):
                 self.assertEqual(made(one_clause(pattern, "1")), ("dots", place))
         self.assertIsNone(made(one_clause("(... a)", "1")))
         self.assertIsNone(made(one_clause("((... ...) a)", "1")))
+
+    def test_dots_alone(self):
+        maker = PatternMaker(())
+        self.assertEqual(outcome(maker.made, syn("..."), 0), ("RulesError", "dots", ("m", 0)))
 
     def test_depth(self):
         self.assertIsNone(made(one_clause("(_ (((a ...) ...) ...) ...)", "1")))
@@ -391,8 +396,12 @@ class TestSize(unittest.TestCase):
         self.assertEqual(Rules(form).apply(syn("(m)"), never), template)
         form = ("list", (syn("rules"), syn("()"), ("list", (syn("(_)"), self.deep(101)), ("m", 0))), ("m", 0))
         self.assertEqual(outcome(Rules(form).apply, syn("(m)", module="u"), never), ("RulesError", "size", ("u", 0)))
-        empty = ("list", (self.deep(98), ("list", (), ("u", 5))), ("u", 9))
-        self.assertEqual(depth(rules.apply(("list", (syn("m"), empty[1][0]), ("u", 1)), never)), 100)
+        for many, code in [(100, "gives"), (101, "RulesError")]:
+            template = ("list", (), ("m", 9))
+            for _ in range(many - 1):
+                template = ("list", (template,), ("m", 9))
+            form = ("list", (syn("rules"), syn("()"), ("list", (syn("(_)"), template), ("m", 0))), ("m", 0))
+            self.assertEqual(outcome(Rules(form).apply, syn("(m)"), never)[0], code)
 
     def test_results_that_nobody_can_make(self):
         big = "(" + "1 " * 1000 + ")"

@@ -142,7 +142,6 @@ def _recolored(given, occurrence, around):
 
 
 def _is_free_equally(given, occurrence, around):
-    around.demand(occurrence)
     told = around.compared(given[0][1], given[1][1], occurrence)
     if told is None:
         raise RunError("ambiguous", occurrence)
@@ -150,12 +149,10 @@ def _is_free_equally(given, occurrence, around):
 
 
 def _fresh(given, occurrence, around):
-    around.demand(occurrence)
     return ("syntax", around.freshened(given[0][1], occurrence))
 
 
 def _local_value(given, occurrence, around):
-    around.demand(occurrence)
     return around.looked_up(given[0][1], occurrence)
 
 

@@ -514,6 +514,9 @@ class Expansion:
     def demand(self, occurrence):
         pass
 
+    def link(self, first, second):
+        pass
+
     def compared(self, first, second, occurrence):
         return None if second[1] == "amb" else first[1][0] == second[1][0]
 

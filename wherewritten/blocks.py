@@ -2,8 +2,8 @@
 
 from wherewritten.applying import PatternProcedure, RulesProcedure, TemplateProcedure
 from wherewritten.machine import (
-    Block, do_call, do_close, do_drop, do_fill, do_jump, do_local, do_return, do_set, do_unless,
-    do_value,
+    Block, do_call, do_close, do_drop, do_fill, do_jump, do_local, do_return, do_set, do_set_top,
+    do_top, do_unless, do_value,
 )
 from wherewritten.rules import Rules
 from wherewritten.values import value_of
@@ -23,24 +23,23 @@ def _value_of_term(term):
     return (kind, term[1])
 
 
-def _add_local(block, term):
-    hops, place = block.address(term[1])
-    block.add_step(do_local, hops, place, term[2])
-
-
-def _add_set(block, variable):
-    hops, place = block.address(variable[1])
-    block.add_step(do_set, hops, place, variable[2])
+def _add_variable(block, variable, do_with_local, do_with_top):
+    """Add the step that does something with what a variable holds."""
+    if variable[0] == "local":
+        hops, place = block.address(variable[1])
+        block.add_step(do_with_local, hops, place, variable[2])
+    else:
+        block.add_step(do_with_top, block.key_of(variable), None, variable[4])
 
 
 def _add_term(block, term, is_last):
     """Add the steps of a term to a block; is_last tells whether the block ends behind them."""
     kind = term[0]
     block.cost += 1
-    if kind == "local":
-        _add_local(block, term)
+    if kind in ("local", "top"):
+        _add_variable(block, term, do_local, do_top)
     elif kind == "fn":
-        inner = Block(block, term[1])
+        inner = Block(block, term[1], block.phase)
         _add_term(inner, term[2], True)
         inner.add_step(do_return)
         block.add_step(do_close, inner)
@@ -69,14 +68,14 @@ def _add_term(block, term, is_last):
         _add_term(block, term[2], is_last)
     elif kind == "set":
         _add_term(block, term[2], False)
-        _add_set(block, term[1])
+        _add_variable(block, term[1], do_set, do_set_top)
     else:
         block.add_step(do_value, _value_of_term(term))
 
 
-def block_of(term):
-    """Return the block of a term that stands in no other."""
-    block = Block(None, ())
+def block_of(term, phase=0):
+    """Return the block of a term that stands in no other, at a phase."""
+    block = Block(None, (), phase)
     _add_term(block, term, True)
     block.add_step(do_return)
     return block

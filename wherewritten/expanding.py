@@ -6,6 +6,9 @@ from wherewritten.errors import RunError
 class NoExpansion:
     """What they find while nothing is expanded: each thing that they may ask for is an error."""
 
+    def link(self, first, second):
+        """Keep that two identifiers were found to be the same; nobody asks for it here."""
+
     def demand(self, occurrence):
         """Raise an error unless something is expanded."""
         raise RunError("expanding", occurrence)

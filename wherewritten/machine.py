@@ -15,9 +15,10 @@ from wherewritten.errors import RunError
 class Block:
     """The steps of a term, and where its variables are."""
 
-    def __init__(self, around, parameters):
+    def __init__(self, around, parameters, phase):
         # The block in which the fn stands, or None.
         self.around = around
+        self.phase = phase
         self.many = len(parameters)
         # The places in the frame of the variables that are bound here, by their numbers.
         self.places = {}
@@ -44,6 +45,11 @@ class Block:
             hops += 1
         return (hops, block.places[variable])
 
+    def key_of(self, variable):
+        """Return where a machine keeps a variable of a module: with the shift of its instance."""
+        _, module, level, number, _ = variable
+        return (module, self.phase - level, level, number)
+
     def add_step(self, action, first=None, second=None, third=None):
         """Add a step, with which all terms begin that have begun since the last one."""
         self.steps.append((action, self.cost, first, second, third))
@@ -66,6 +72,8 @@ class Machine:
     def __init__(self, fuel, around):
         self.left = fuel
         self.around = around
+        # What the variables of modules hold, by (module, shift, level, number).
+        self.tops = {}
         self.stack = []
         # What goes on behind the calls: (steps, index of the next one, frame).
         self.waiting = []
@@ -76,6 +84,19 @@ class Machine:
     def run(self, block):
         """Return the value of a block that stands in no other."""
         self.begin(block, None, [])
+        return self.finish()
+
+    def apply(self, procedure, given, occurrence):
+        """Return what a procedure gives for some arguments; the call has an occurrence."""
+        if procedure[0] != "closure":
+            return applied(procedure, given, occurrence, self.around)
+        if len(given) != procedure[1].many:
+            raise RunError("count", occurrence)
+        self.begin(procedure[1], procedure[2], given)
+        return self.finish()
+
+    def finish(self):
+        """Do what has begun, and return its value."""
         while self.steps is not None:
             step = self.steps[self.at]
             self.at += 1
@@ -125,6 +146,20 @@ def do_set(machine, step):
     if frame[step[3]] is None:
         raise RunError("early", step[4])
     frame[step[3]] = machine.stack[-1]
+
+
+def do_top(machine, step):
+    """Put what a variable of a module holds on the stack."""
+    if step[2] not in machine.tops:
+        raise RunError("early", step[4])
+    machine.stack.append(machine.tops[step[2]])
+
+
+def do_set_top(machine, step):
+    """Let a variable of a module hold the value on top of the stack."""
+    if step[2] not in machine.tops:
+        raise RunError("early", step[4])
+    machine.tops[step[2]] = machine.stack[-1]
 
 
 def do_fill(machine, step):

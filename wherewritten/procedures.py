@@ -133,7 +133,11 @@ def _wrap(given, occurrence, around):
 
 
 def _is_bound_equally(given, occurrence, around):
-    return _flag(same_binder(given[0][1], given[1][1]))
+    first, second = given[0][1], given[1][1]
+    told = same_binder(first, second)
+    if told:
+        around.link(first, second)
+    return _flag(told)
 
 
 def _recolored(given, occurrence, around):

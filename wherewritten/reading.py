@@ -185,3 +185,24 @@ def offsets(text):
     reader = Reader(text)
     reader.read_all()
     return list(reader.starts)
+
+
+def spelled(text):
+    """Return where the names of a text that can be read are spelled out, and where signs stand for names.
+
+    The first one is a dict from places to pairs (start, end), the second one a list of places.
+    """
+    names = {}
+    signs = []
+    place = 0
+    for sort, start, end in tokens(text):
+        word = text[start:end]
+        if word == ")":
+            continue
+        if sort == "name":
+            names[place] = (start, end)
+        if word in SIGN_NAMES:
+            place += 1
+            signs.append(place)
+        place += 1
+    return (names, signs)

@@ -58,30 +58,31 @@ def _set_flipped(scopes, scope):
     return _set_with(scopes, scope)
 
 
-def _changed(syntax, change, scope):
+def changed(syntax, change, by):
+    """Return syntax in which a function of each set and of something else gave the new set."""
     if syntax[0] == "id":
-        return ("id", syntax[1], syntax[2], change(syntax[3], scope))
+        return ("id", syntax[1], syntax[2], change(syntax[3], by))
     if syntax[0] == "atom":
         return syntax
     parts = []
     for part in syntax[1]:
-        parts.append(_changed(part, change, scope))
+        parts.append(changed(part, change, by))
     return ("list", tuple(parts), syntax[2])
 
 
 def added(syntax, scope):
     """Return syntax with a scope added to the sets of all identifiers."""
-    return _changed(syntax, _set_with, scope)
+    return changed(syntax, _set_with, scope)
 
 
 def removed(syntax, scope):
     """Return syntax with a scope taken out of the sets of all identifiers."""
-    return _changed(syntax, _set_without, scope)
+    return changed(syntax, _set_without, scope)
 
 
 def flipped(syntax, scope):
     """Return syntax with a scope added to the sets that lack it and taken out of the others."""
-    return _changed(syntax, _set_flipped, scope)
+    return changed(syntax, _set_flipped, scope)
 
 
 def identifiers(syntax):

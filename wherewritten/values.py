@@ -89,3 +89,38 @@ def shown(value):
             parts.append(shown(part))
         return "(" + " ".join(parts) + ")"
     return "syntax" if value[0] == "syntax" else "procedure"
+
+
+def _are_parts_small(plain):
+    if plain[0] != "list":
+        return True
+    for part in plain[1]:
+        if not _are_parts_small(part):
+            return False
+    return len(plain[1]) <= MOST_PARTS
+
+
+def _plainly(syntax):
+    """Return syntax without identifiers, dots and wildcards in the form of a plain value, or None."""
+    if syntax[0] == "atom":
+        return (syntax[1], syntax[2]) if syntax[1] in PLAIN_KINDS else None
+    if syntax[0] == "id":
+        return None
+    parts = []
+    for part in syntax[1]:
+        plain = _plainly(part)
+        if plain is None:
+            return None
+        parts.append(plain)
+    return ("list", tuple(parts))
+
+
+def is_plain_small(plain):
+    """Tell whether the lists of a plain value keep the bounds of values."""
+    return plain[0] != "list" or (_are_parts_small(plain) and is_list_small(value_of(plain)))
+
+
+def plain_of(syntax):
+    """Return the plain value that is written as syntax, or None if it is none."""
+    plain = _plainly(syntax)
+    return plain if plain is not None and is_plain_small(plain) else None

@@ -1,0 +1,68 @@
+"""Linking modules to programs, and running these."""
+
+from wherewritten.blocks import block_of
+from wherewritten.errors import ModuleError
+from wherewritten.expanding import NoExpansion
+from wherewritten.machine import Machine
+from wherewritten.terms import show_term
+from wherewritten.values import shown
+
+
+def order(artifacts, main):
+    """Return the list of the modules of a main module, each behind those that it uses at level 0."""
+    found, missing = [], []
+    seen = {}
+    # What is left to do, the next on top: (module, whether what it uses is done).
+    left = [(main, False)]
+    while left:
+        name, is_ready = left.pop()
+        if is_ready:
+            found.append(name)
+        elif name not in seen:
+            seen[name] = True
+            if name in artifacts:
+                left.append((name, True))
+                used = [(module, False) for module, level in artifacts[name][2] if level == 0]
+                left.extend(used[::-1])
+            else:
+                missing.append(name)
+    if missing:
+        raise ModuleError("missing", tuple(sorted(missing)))
+    return found
+
+
+def items_to_run(artifact):
+    """Return the list of the items of a module that are part of programs."""
+    return [item for item in artifact[5] if item[0] != "mac" and item[1] == 0]
+
+
+def item_line(module, item):
+    """Return the line of an item of a program."""
+    kind, level, number, term = item
+    if kind == "def":
+        return f"(def {module}:{level}:{number} {show_term(term)})\n"
+    return show_term(term) + "\n"
+
+
+def program(artifacts, main):
+    """Return the text of the program of a main module."""
+    lines = []
+    for module in order(artifacts, main):
+        lines.append(f"module {module}\n")
+        for item in items_to_run(artifacts[module]):
+            lines.append(item_line(module, item))
+    return "".join(lines)
+
+
+def run(artifacts, main, fuel):
+    """Return the list of the pairs (module, shown value) of the expressions of a program."""
+    machine = Machine(fuel, NoExpansion())
+    told = []
+    for module in order(artifacts, main):
+        for kind, level, number, term in items_to_run(artifacts[module]):
+            value = machine.run(block_of(term))
+            if kind == "def":
+                machine.tops[(module, 0, level, number)] = value
+            else:
+                told.append((module, shown(value)))
+    return told

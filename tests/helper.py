@@ -2,8 +2,10 @@
 
 import random
 
+from wherewritten.compiling import compile_module
 from wherewritten.errors import WhereError
-from wherewritten.reading import read
+from wherewritten.linking import run
+from wherewritten.reading import offsets, read
 from wherewritten.showing import show
 from wherewritten.syntax import datum_of, syntax_of
 
@@ -91,3 +93,42 @@ def call(first, *rest, at=AT):
 
 def stx(source, scopes=()):
     return ("syntax", syn(source, scopes))
+
+
+# Modules.
+
+def marked(text):
+    """A text without the sign ^ in it, and the place of the datum ahead of which it stood (None without one)."""
+    if "^" not in text:
+        return text, None
+    index = text.index("^")
+    clean = text.replace("^", "")
+    return clean, offsets(clean).index(index)
+
+
+def made_of(text, name="m", artifacts=None):
+    """What compiling a text gives."""
+    return compile_module(name, text, artifacts or {})
+
+
+def artifacts_of(texts):
+    """The artifacts of modules, each of which uses only those ahead of it."""
+    artifacts = {}
+    for name, text in texts.items():
+        artifacts[name] = compile_module(name, text, artifacts).artifact()
+    return artifacts
+
+
+def values_of(text, name="m", artifacts=None, fuel=100000):
+    """The shown values of the expressions of a module, those of modules that it uses left out."""
+    known = dict(artifacts or {})
+    known[name] = compile_module(name, text, known).artifact()
+    return [value for module, value in run(known, name, fuel) if module == name]
+
+
+def spot(text, part, index=0):
+    """The place of the datum that begins where a part of a text stands for the time with an index."""
+    at = -1
+    for _ in range(index + 1):
+        at = text.index(part, at + 1)
+    return offsets(text).index(at)

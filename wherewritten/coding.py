@@ -34,12 +34,22 @@ class BlockMaker:
 
     def row_of(self, variable):
         """Return where the block has a variable: ("slot", i) or ("outer", i)."""
+        within = []
+        maker = self
+        while variable not in maker.slots and variable not in maker.outer:
+            within.append(maker)
+            maker = maker.around
+        row = maker.own_row_of(variable)
+        for inner in within[::-1]:
+            inner.outer[variable] = len(inner.rows)
+            inner.rows.append(row)
+            row = ("outer", inner.outer[variable])
+        return row
+
+    def own_row_of(self, variable):
+        """Return where the block has a variable that it is known to have."""
         if variable in self.slots:
             return ("slot", self.slots[variable])
-        if variable not in self.outer:
-            row = self.around.row_of(variable)
-            self.outer[variable] = len(self.rows)
-            self.rows.append(row)
         return ("outer", self.outer[variable])
 
     def put(self, instruction):
@@ -55,63 +65,24 @@ class BlockMaker:
         return len(self.instructions) - 1
 
     def land(self, at):
-        """Let the jump at an index go on at the next instruction that is added."""
-        self.instructions[at] = (self.instructions[at][0], len(self.instructions))
+        """Let the jump at an index, if there is one, go on at the next instruction that is added."""
+        if at is not None:
+            self.instructions[at] = (self.instructions[at][0], len(self.instructions))
 
     def end(self):
         """Let the block be part of the code."""
         self.blocks[self.number] = (self.many, len(self.slots), len(self.rows), tuple(self.instructions))
 
 
-def _put_procedure(maker, term):
-    inner = BlockMaker(maker.blocks, maker, term[1])
-    _put_term(inner, term[2], True)
-    inner.end()
-    maker.put(("close", inner.number, tuple(inner.rows)))
-
-
-def _put_if(maker, term, is_last):
-    _put_term(maker, term[1], False)
-    unless = maker.put_jump("unless")
-    _put_term(maker, term[2], is_last)
-    if is_last:
-        maker.land(unless)
-        _put_term(maker, term[3], True)
-        return
-    jump = maker.put_jump("jump")
-    maker.land(unless)
-    _put_term(maker, term[3], False)
-    maker.land(jump)
-
-
-def _put_rec(maker, term, is_last):
-    maker.bind([variable for variable, _ in term[1]])
-    for variable, part in term[1]:
-        _put_term(maker, part, False)
-        maker.put(("fill", maker.slots[variable]))
-    _put_term(maker, term[2], is_last)
-
-
-def _put_set(maker, term):
-    _put_term(maker, term[2], False)
-    variable = term[1]
+def _put_set(maker, variable):
     if variable[0] == "local":
         maker.put(("set", *maker.row_of(variable[1]), variable[2]))
     else:
         maker.put(("settop", *variable[1:]))
 
 
-def _put_single(maker, term):
-    """Add the instructions of a term that leaves a value, without an end of the block."""
-    kind = term[0]
-    if kind == "fn":
-        _put_procedure(maker, term)
-    elif kind == "set":
-        _put_set(maker, term)
-    elif kind == "local":
-        maker.put((*maker.row_of(term[1]), term[2]))
-    else:
-        maker.put(term)
+def _put_leaf(maker, term):
+    maker.put((*maker.row_of(term[1]), term[2]) if term[0] == "local" else term)
 
 
 def _put_term(maker, term, is_last):
@@ -123,16 +94,35 @@ def _put_term(maker, term, is_last):
             _put_term(maker, part, False)
         maker.put(("tail" if is_last else "call", len(term[2]), term[3]))
     elif kind == "if":
-        _put_if(maker, term, is_last)
+        _put_term(maker, term[1], False)
+        unless = maker.put_jump("unless")
+        _put_term(maker, term[2], is_last)
+        jump = None if is_last else maker.put_jump("jump")
+        maker.land(unless)
+        _put_term(maker, term[3], is_last)
+        maker.land(jump)
     elif kind == "do":
         for part in term[1][:-1]:
             _put_term(maker, part, False)
             maker.put(("drop",))
         _put_term(maker, term[1][-1], is_last)
     elif kind == "rec":
-        _put_rec(maker, term, is_last)
+        maker.bind([variable for variable, _ in term[1]])
+        for variable, part in term[1]:
+            _put_term(maker, part, False)
+            maker.put(("fill", maker.slots[variable]))
+        _put_term(maker, term[2], is_last)
     else:
-        _put_single(maker, term)
+        if kind == "fn":
+            inner = BlockMaker(maker.blocks, maker, term[1])
+            _put_term(inner, term[2], True)
+            inner.end()
+            maker.put(("close", inner.number, tuple(inner.rows)))
+        elif kind == "set":
+            _put_term(maker, term[2], False)
+            _put_set(maker, term[1])
+        else:
+            _put_leaf(maker, term)
         if is_last:
             maker.put(("return",))
 

@@ -9,8 +9,8 @@ class Built:
     """What was built of a module: its text then, what compiling gave, and the notes."""
 
     def __init__(self, text, compiled, notes):
-        self.text = text
-        self.compiled = compiled
+        self.source = text
+        self.result = compiled
         # Triples (module, shift, text of the interface), in the order of making ready.
         self.notes = notes
 
@@ -22,7 +22,7 @@ class Building:
         self.texts = {name: texts[name] for name in texts}
         self.built = {name: built[name] for name in built}
         # The modules that were begun and have not ended, in order, and those that have ended.
-        self.begun = []
+        self.underway = []
         self.ended = {}
         self.report = []
         self.interfaces = {}
@@ -35,19 +35,19 @@ class Building:
         if name not in self.texts:
             return None
         self.make_sure(name)
-        return self.built[name].compiled.artifact()
+        return self.built[name].result.artifact()
 
     def make_sure(self, name):
         """Make sure that what was built of a module is as it would be in a new store."""
         if name in self.ended:
             return
-        if name in self.begun:
-            raise ModuleError("cycle", tuple(self.begun[self.begun.index(name):]))
+        if name in self.underway:
+            raise ModuleError("cycle", tuple(self.underway[self.underway.index(name):]))
         if self.trials > 0 and name in self.failed:
             raise ModuleError("missing", (name,))
-        self.begun.append(name)
+        self.underway.append(name)
         self.renew(name)
-        self.begun.pop()
+        self.underway.pop()
         self.ended[name] = True
         self.failed = {}
 
@@ -57,7 +57,7 @@ class Building:
             self.compile_for(name, "new", None)
             return
         before = self.built[name]
-        if before.text != self.texts[name]:
+        if before.source != self.texts[name]:
             self.compile_for(name, "text", None)
             return
         for module, shift, noted in before.notes[::-1]:
@@ -75,11 +75,11 @@ class Building:
         An error ends the building only if the module still needs the other one: otherwise a new
         store would not meet the error.
         """
-        many = len(self.begun)
+        many = len(self.underway)
         try:
             self.make_sure(module)
         except WhereError:
-            del self.begun[many:]
+            del self.underway[many:]
             self.failed[module] = True
             if not self.compiles(name, module):
                 raise
@@ -88,13 +88,13 @@ class Building:
 
     def compiles(self, name, module):
         """Tell whether a module compiles although one that it needed does not."""
-        many = len(self.begun)
+        many = len(self.underway)
         self.trials += 1
         is_sound = True
         try:
             self.compile_for(name, "interface", module)
         except WhereError:
-            del self.begun[many:]
+            del self.underway[many:]
             is_sound = False
         self.trials -= 1
         return is_sound
@@ -113,5 +113,5 @@ class Building:
         """Return the text of the interface for a shift of a module that was made sure of."""
         key = (module, shift)
         if key not in self.interfaces:
-            self.interfaces[key] = interface(self.built[module].compiled.artifact(), shift)
+            self.interfaces[key] = interface(self.built[module].result.artifact(), shift)
         return self.interfaces[key]

@@ -12,7 +12,7 @@ def compile_all(texts):
     names = sorted(list(texts))
     for name in names:
         building.make_sure(name)
-    return [building.built[name].compiled for name in names]
+    return [building.built[name].result for name in names]
 
 
 def is_written(texts, occurrence):

@@ -28,12 +28,12 @@ class Compiled:
 
     def __init__(self, session):
         self.session = session
-        self.made = make_artifact(
+        self.kept_artifact = make_artifact(
             session.module, session.uses, session.offers, session.bindings, session.item_rows)
 
     def artifact(self):
         """Return the artifact."""
-        return self.made
+        return self.kept_artifact
 
     def ready(self):
         """Return the list of the pairs (module, shift) in the order in which they were made ready."""
@@ -61,11 +61,11 @@ class Compiled:
 
     def binders(self):
         """Return the list of the occurrences of the identifiers that were bound, as they were met."""
-        return list(self.session.binders)
+        return list(self.session.binder_rows)
 
     def begun(self):
         """Return how many terms were begun by the evaluations."""
-        return self.session.begun()
+        return self.session.spent()
 
     def scopes(self):
         """Return the list of the pairs (kind, occurrence) of the scopes that were made."""
@@ -73,7 +73,7 @@ class Compiled:
 
     def table(self):
         """Return the list of the bindings that were added to those of core."""
-        return list(self.session.table.rows)
+        return list(self.session.meanings.rows)
 
     def tale(self, occurrence):
         """Return the list of what was resolved of what was written at an occurrence."""

@@ -105,7 +105,7 @@ class Expander:
             handed = added(handed, use_site)
         introduction = session.new_scope("introduction", at)
         handed = added(handed, introduction)
-        value = session.apply(procedure, handed, Expansion(session, setting, at), at)
+        value = session.apply_macro(procedure, handed, Expansion(session, setting, at), at)
         if value[0] != "syntax":
             raise ExpandError("result", at)
         result = flipped(value[1], introduction)

@@ -24,7 +24,7 @@ class Expansion:
         self.session = session
         self.setting = setting
         # The occurrence of the use.
-        self.use = use
+        self.use_place = use
 
     def demand(self, occurrence):
         """Nothing is wrong: something is expanded."""
@@ -39,7 +39,7 @@ class Expansion:
 
     def freshened(self, identifier, occurrence):
         """Return an identifier with a new scope added."""
-        return added(identifier, self.session.new_scope("fresh", self.use))
+        return added(identifier, self.session.new_scope("fresh", self.use_place))
 
     def looked_up(self, identifier, occurrence):
         """Return the value of the macro to which an identifier is bound."""

@@ -1,7 +1,6 @@
 """Groups of forms of a module at a level."""
 
 from wherewritten.bodies import Pass
-from wherewritten.errors import ExpandError
 from wherewritten.offering import keep_offers, take_offers
 from wherewritten.setting import Environment, Setting
 from wherewritten.shapes import demand_definition
@@ -18,11 +17,11 @@ class Group(Pass):
         self.level = level
         self.owner = owner
         # What pass 2 expands: pairs of the number of a variable, or None, and an expression.
-        self.left = []
+        self.kept = []
 
     def keep(self, form):
         """Keep an expression."""
-        self.left.append((None, form))
+        self.kept.append((None, form))
 
     def take_word(self, word, form):
         """Take a list with a word other than do."""
@@ -47,7 +46,7 @@ class Group(Pass):
         demand_definition(form)
         number = self.session.count_on(("top", self.level))
         self.bind(form[1][1], ("top", self.session.module, self.level, number))
-        self.left.append((number, form[1][2]))
+        self.kept.append((number, form[1][2]))
 
     def take_defmac(self, form):
         """Bind the macro of a definition, which is evaluated at once."""
@@ -66,7 +65,7 @@ class Group(Pass):
     def finish(self):
         """Expand what is left; above level 0 evaluate it, too."""
         made = []
-        for number, form in self.left:
+        for number, form in self.kept:
             term = self.expander.expand(form, self.setting)
             if number is not None:
                 made.append(("def", self.level, number, term))

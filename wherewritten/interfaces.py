@@ -5,7 +5,7 @@ An artifact is a tuple ("module", name, uses, offers, bindings, items).
 
 from wherewritten.syntax import identifiers
 from wherewritten.table import LAST_PHASE
-from wherewritten.walking import syntax_in, with_sets
+from wherewritten.walking import syntax_in
 
 
 def phase_of_item(item, shift):

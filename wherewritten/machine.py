@@ -23,7 +23,7 @@ class Block:
         # The places in the frame of the variables that are bound here, by their numbers.
         self.places = {}
         self.bind(parameters)
-        self.steps = []
+        self.actions = []
         # How many terms have begun since the last step.
         self.cost = 0
 
@@ -52,18 +52,18 @@ class Block:
 
     def add_step(self, action, first=None, second=None, third=None):
         """Add a step, with which all terms begin that have begun since the last one."""
-        self.steps.append((action, self.cost, first, second, third))
+        self.actions.append((action, self.cost, first, second, third))
         self.cost = 0
 
     def add_jump(self, action):
         """Add a step that goes on elsewhere, and return its index."""
         self.add_step(action)
-        return len(self.steps) - 1
+        return len(self.actions) - 1
 
     def land(self, at):
         """Let the jump at an index go on at the next step that is added."""
-        action, cost, _, _, _ = self.steps[at]
-        self.steps[at] = (action, cost, len(self.steps), None, None)
+        action, cost, _, _, _ = self.actions[at]
+        self.actions[at] = (action, cost, len(self.actions), None, None)
 
 
 class Machine:
@@ -77,7 +77,7 @@ class Machine:
         self.stack = []
         # What goes on behind the calls: (steps, index of the next one, frame).
         self.waiting = []
-        self.steps = None
+        self.actions = None
         self.at = 0
         self.frame = None
 
@@ -86,7 +86,7 @@ class Machine:
         self.begin(block, None, [])
         return self.finish()
 
-    def apply(self, procedure, given, occurrence):
+    def apply_value(self, procedure, given, occurrence):
         """Return what a procedure gives for some arguments; the call has an occurrence."""
         if procedure[0] != "closure":
             return applied(procedure, given, occurrence, self.around)
@@ -97,8 +97,8 @@ class Machine:
 
     def finish(self):
         """Do what has begun, and return its value."""
-        while self.steps is not None:
-            step = self.steps[self.at]
+        while self.actions is not None:
+            step = self.actions[self.at]
             self.at += 1
             if step[1] > self.left:
                 self.left = 0
@@ -110,12 +110,12 @@ class Machine:
 
     def begin(self, block, frame, given):
         """Begin a block; what is done now goes on when it has ended."""
-        self.waiting.append((self.steps, self.at, self.frame))
+        self.waiting.append((self.actions, self.at, self.frame))
         self.go_on(block, frame, given)
 
     def go_on(self, block, frame, given):
         """Begin a block in place of the one that is done now."""
-        self.steps = block.steps
+        self.actions = block.actions
         self.at = 0
         self.frame = [frame, *given] + [None] * (len(block.places) - block.many)
 
@@ -191,7 +191,7 @@ def do_jump(machine, step):
 
 def do_return(machine, step):
     """End a block; its value stays on the stack."""
-    machine.steps, machine.at, machine.frame = machine.waiting.pop()
+    machine.actions, machine.at, machine.frame = machine.waiting.pop()
 
 
 def _take(machine, many):

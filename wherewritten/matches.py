@@ -114,13 +114,13 @@ class Filling:
         self.setting = setting
         # The pattern variables, as local terms, by their targets; and the rows of the template.
         self.numbers = {}
-        self.variables = []
+        self.given_terms = []
         self.rows = {}
 
     def take(self, identifier):
         """Look at an identifier of the template."""
         record = self.expander.session.record
-        told = record.table.resolved(self.setting.phase, identifier)
+        told = record.meanings.resolved(self.setting.phase, identifier)
         kind, target, _ = told
         if kind == "ambiguous":
             raise ExpandError("ambiguous", occurrence_of(identifier))
@@ -136,8 +136,8 @@ class Filling:
         if not self.setting.lets(target):
             raise ExpandError("scope", at)
         if target not in self.numbers:
-            self.numbers[target] = len(self.variables)
-            self.variables.append(("local", target[2], at))
+            self.numbers[target] = len(self.given_terms)
+            self.given_terms.append(("local", target[2], at))
         deep = self.expander.session.depths[target]
         self.rows.setdefault((identifier[1], identifier[3]), (self.numbers[target], deep))
 
@@ -157,7 +157,7 @@ def expand_fill(expander, form, setting):
     for name, scopes in filling.rows:
         number, deep = filling.rows[(name, scopes)]
         rows.append((name, scopes, number, deep))
-    return ("call", ("template", syntax, tuple(rows)), tuple(filling.variables), occurrence_of(form))
+    return ("call", ("template", syntax, tuple(rows)), tuple(filling.given_terms), occurrence_of(form))
 
 
 MATCH_FORMS = {"match": expand_match, "fill": expand_fill}

@@ -5,7 +5,7 @@ from wherewritten.syntax import identifiers
 from wherewritten.walking import syntax_in, with_sets
 
 
-def is_plain(item):
+def is_plain_item(item):
     """Tell whether an item is one that only programs evaluate."""
     return item[0] != "mac" and item[1] == 0
 
@@ -43,8 +43,8 @@ def make_artifact(module, uses, offers, bindings, items):
     """Return the artifact of a module; the bindings are those that were made or imported in it."""
     keeper = Keeper(items)
     kept = [binding for binding in bindings if keeper.keeps(binding)]
-    others = [item for item in items if not is_plain(item)]
-    plain = [item for item in items if is_plain(item)]
+    others = [item for item in items if not is_plain_item(item)]
+    plain = [item for item in items if is_plain_item(item)]
     seen_by_others = Keeper(others)
     numbering = Numbering(module)
     for binding in kept:

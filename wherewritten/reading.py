@@ -113,24 +113,24 @@ class Reader:
     """Puts the tokens of a text together to data, and counts their places."""
 
     def __init__(self, text):
-        self.text = text
+        self.source = text
         self.forms = []
         self.starts = []
         # The lists that have begun and not ended: (their sign, place, parts).
-        self.begun = []
+        self.open_lists = []
 
     def read_all(self):
         """Take all tokens; raise ReadError at the first one that cannot stand."""
-        if len(self.text) > LONGEST_TEXT:
+        if len(self.source) > LONGEST_TEXT:
             raise ReadError(LONGEST_TEXT)
-        for sort, start, end in tokens(self.text):
+        for sort, start, end in tokens(self.source):
             self.take(sort, start, end)
-        if self.begun:
-            raise ReadError(len(self.text))
+        if self.open_lists:
+            raise ReadError(len(self.source))
 
     def take(self, sort, start, end):
         """Take one token."""
-        word = self.text[start:end]
+        word = self.source[start:end]
         if sort == "wrong":
             raise ReadError(start)
         if sort != "sign":
@@ -147,28 +147,28 @@ class Reader:
 
     def begin_list(self, sign, start):
         """Begin the list for a sign other than the closing one."""
-        if len(self.begun) == DEEPEST_LIST:
+        if len(self.open_lists) == DEEPEST_LIST:
             raise ReadError(start)
         place = self.new_place(start)
         parts = []
         if sign != "(":
             parts.append(("name", SIGN_NAMES[sign], self.new_place(start)))
-        self.begun.append((sign, place, parts))
+        self.open_lists.append((sign, place, parts))
 
     def end_list(self, start):
         """End the innermost list, if it is one that a closing sign ends."""
-        if not self.begun or self.begun[-1][0] != "(":
+        if not self.open_lists or self.open_lists[-1][0] != "(":
             raise ReadError(start)
-        _, place, parts = self.begun.pop()
+        _, place, parts = self.open_lists.pop()
         self.put(("list", tuple(parts), place))
 
     def put(self, datum):
         """Put a datum where it stands; it ends the lists of the signs ahead of it."""
-        while self.begun and self.begun[-1][0] != "(":
-            _, place, parts = self.begun.pop()
+        while self.open_lists and self.open_lists[-1][0] != "(":
+            _, place, parts = self.open_lists.pop()
             datum = ("list", (parts[0], datum), place)
-        if self.begun:
-            self.begun[-1][2].append(datum)
+        if self.open_lists:
+            self.open_lists[-1][2].append(datum)
         else:
             self.forms.append(datum)
 

@@ -20,7 +20,7 @@ class Record:
     """Resolves identifiers in a table, and notes what came of it."""
 
     def __init__(self, table):
-        self.table = table
+        self.meanings = table
         # What is looked at again at the end of a pass: (phase, identifier, None, target or None),
         # or (phase, first, second, what was told) for a comparison.
         self.log = []
@@ -43,7 +43,7 @@ class Record:
 
     def look(self, phase, identifier):
         """Resolve an identifier, note it, and return (kind of the outcome, target, giver)."""
-        told = self.table.resolved(phase, identifier)
+        told = self.meanings.resolved(phase, identifier)
         self.note(phase, identifier, told)
         return told
 
@@ -75,9 +75,9 @@ class Record:
     def check_late(self, start):
         """Look again at all that was noted from an index of the log on."""
         for phase, first, second, before in self.log[start:]:
-            now = self.table.resolved(phase, first)
+            now = self.meanings.resolved(phase, first)
             if second is not None:
-                other = self.table.resolved(phase, second)
+                other = self.meanings.resolved(phase, second)
                 is_late = _same_outcomes(first, second, now, other) != before
             elif before is None:
                 is_late = now[0] == "bound" and (now[1][0] == "word" or is_macro(now[1]))

@@ -19,8 +19,8 @@ class Session:
     def __init__(self, module, provider):
         self.module = module
         self.provider = provider
-        self.table = Table()
-        self.record = Record(self.table)
+        self.meanings = Table()
+        self.record = Record(self.meanings)
         self.quiet = Watching(self.record)
         self.machine = Machine(MOST_TERMS, self.quiet)
         # How many there are of what is counted.
@@ -35,7 +35,7 @@ class Session:
         self.homes = {}
         # The bindings that were made or imported here, and the occurrences of the binders.
         self.bindings = []
-        self.binders = []
+        self.binder_rows = []
         # The steps, and how much syntax each of them added.
         self.step_rows = []
         self.step_growths = []
@@ -81,14 +81,14 @@ class Session:
         """Bind an identifier at a phase to a target."""
         name, scopes = identifier[1], identifier[3]
         giver = occurrence_of(identifier)
-        if self.table.target_at(phase, name, scopes) is not None:
+        if self.meanings.target_at(phase, name, scopes) is not None:
             raise ExpandError("double", giver)
         self.add_binding((phase, name, scopes, target, giver))
-        self.binders.append(giver)
+        self.binder_rows.append(giver)
 
     def add_binding(self, row):
         """Add a binding that is one of this module."""
-        self.table.put_row(row)
+        self.meanings.put_row(row)
         self.bindings.append(row)
 
     def is_at_home(self, target, context):
@@ -111,11 +111,11 @@ class Session:
         except RunError as error:
             raise ExpandError("run " + error.code, occurrence) from None
 
-    def apply(self, procedure, syntax, around, occurrence):
+    def apply_macro(self, procedure, syntax, around, occurrence):
         """Return what a procedure makes of syntax while it is expanded."""
         self.machine.around = around
         try:
-            value = self.machine.apply(procedure, [("syntax", syntax)], occurrence)
+            value = self.machine.apply_value(procedure, [("syntax", syntax)], occurrence)
         except RunError as error:
             raise ExpandError("run " + error.code, occurrence) from None
         self.machine.around = self.quiet
@@ -130,6 +130,6 @@ class Session:
         elif kind == "mac":
             self.macros[(module, shift, level, number)] = value
 
-    def begun(self):
+    def spent(self):
         """Return how many terms were begun."""
         return MOST_TERMS - self.machine.left

@@ -73,16 +73,16 @@ class Store:
     def compiled(self, name):
         """Return what compiling gave when the module was built last, or None."""
         self.demand(name)
-        return self.built[name].compiled if name in self.built else None
+        return self.built[name].result if name in self.built else None
 
-    def artifacts(self):
+    def all_artifacts(self):
         """Return the dict of all artifacts that were built."""
-        return {name: self.built[name].compiled.artifact() for name in self.built}
+        return {name: self.built[name].result.artifact() for name in self.built}
 
     def program(self, main):
         """Return the text of the program of a main module, of what was built."""
-        return program(self.artifacts(), main)
+        return program(self.all_artifacts(), main)
 
     def run(self, main, fuel):
         """Return what the program of a main module gives, of what was built."""
-        return run(self.artifacts(), main, fuel)
+        return run(self.all_artifacts(), main, fuel)

@@ -1,7 +1,7 @@
 """Using modules: specs, making modules ready, and importing what they offer."""
 
 from wherewritten.errors import ExpandError
-from wherewritten.interfaces import interface_of, phase_of_item
+from wherewritten.interfaces import interface_of
 from wherewritten.shapes import are_identifiers, is_identifier, is_list_of_identifiers
 from wherewritten.syntax import occurrence_of
 from wherewritten.table import CORE_SCOPE, LAST_PHASE, is_macro
@@ -106,7 +106,7 @@ class Readying:
         for phase, name, scopes, target, giver in bindings:
             if is_at_phase(target, phase + shift):
                 row = (phase + shift, name, _shifted_set(scopes, shift), target, giver)
-                self.session.table.put_row(row)
+                self.session.meanings.put_row(row)
         for kind, level, number, term in items:
             item = (kind, level, number, with_sets(term, _shifted_set, shift))
             self.session.do_item(module, shift, item, self.occurrence)
@@ -121,7 +121,7 @@ def _import(session, offer, level, bringer, is_renamed):
     scopes = session.context.cleared(bringer)[3]
     if is_renamed:
         name, giver = bringer[1], at
-    known = session.table.target_at(phase + level, name, scopes)
+    known = session.meanings.target_at(phase + level, name, scopes)
     if known is None:
         session.add_binding((phase + level, name, scopes, target, giver))
     elif known != target:

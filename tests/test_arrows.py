@@ -113,6 +113,20 @@ class TestArrows(ArrowCase):
         text = "(defmac m (rules () ((_ a) 1))) (m ('x #'y))"
         self.assertEqual(made_of(text).fixed()[-2:], [("m", spot(text, "'x") + 1), ("m", spot(text, "#'y") + 1)])
 
+    def test_occurrences_in_other_modules(self):
+        source = "(def x 1) (defmac m (rules (k) ((_ k) (list x nope)) ((_ a) (let ((b a)) (list b x))))) (offer m)"
+        artifacts = artifacts_of({"a": source})
+        text = "(use a) (m (list 2))"
+        made = made_of(text, "m", artifacts)
+        places = {mark: ("a", spot(source, mark)) for mark in ("let", "b a", "list b", "b x", "x))")}
+        m, handed = ("a", spot(source, "m (rules")), ("m", spot(text, "list 2"))
+        self.assertEqual(made.fixed(), sorted([("m", 1), ("m", 2), handed, places["let"], places["list b"]]))
+        self.assertEqual(made.arrows(), sorted([(("m", 4), m), (places["b x"], places["b a"]), (places["x))"], ("a", 2))]))
+        # The literal is compared with an identifier only.
+        self.assertEqual(made.tale(("a", spot(source, "k) ((_"))), [])
+        told = made_of("(use a) (m list)", "m", artifacts).tale(("a", spot(source, "k) ((_")))
+        self.assertEqual([row[2:] for row in told], [("unbound", None)])
+
     def test_rows_of_modules(self):
         made = compile_all(SAMPLES)
         for told, one in ((all_arrows, "arrows"), (all_links, "links"), (all_fixed, "fixed")):

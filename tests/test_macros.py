@@ -41,7 +41,12 @@ class TestHygiene(ModuleCase):
             (let ((z 6)) (m z))""", "(5 6)")
 
     def test_use_site_scopes(self):
-        # Without use-site scopes the second x would be what the first one is.
+        # Without use-site scopes x would be ambiguous there.
+        identity = "(defmac identity (rules () ((_ y) (fn (x) (let ((y 5)) x))))) ((identity x) 7)"
+        self.check_values(identity, "7")
+        self.check_values(f"(let () {identity})", "7")
+        self.check_values(f"(up {identity[:-2]}1)) (def ok 1) ok", "1")
+        # A binder of the body loses them.
         self.check_values("""(let () (defmac def-id (rules () ((_ n v) (do (def x 1) (def n v)))))
             (def-id x 2) x)""", "2")
         self.check_values("""(def x 1) (defmac same (rules () ((_ y e) (let ((y 2)) e)))) (same x x)""", "2")

@@ -277,6 +277,12 @@ class TestShifts(ModuleCase):
         sets = {row[2] for row in made.table() if row[1] == "n"}
         self.assertEqual(len(sets), 3)
 
+    def test_each_shift_has_values_of_macros_of_its_own(self):
+        artifacts = artifacts_of({"a": "(up (def n 0)) (defmac tick (fn (s) (do (set n (+ n 1)) (wrap n s)))) (offer tick)"})
+        text = """(use a) (up (use a) (up (use a) (def q (list (tick)))) (def p (list (tick) (tick) (tick))))
+            (def x (list (tick) (tick))) (defmac m (fn (s) (join (list #'list (wrap (first (rest (rest p))) s)) s))) (list x (m) (tick))"""
+        self.check_values(text, "((1 2) (3) 3)", artifacts=artifacts)
+
     def test_nothing_is_seen_by_other_compilings(self):
         artifacts = artifacts_of({"a": self.COUNTER})
         text = "(up (use a)) (defmac m (fn (s) (wrap (next-number) s))) (m) (m) (offer m)"

@@ -103,8 +103,8 @@ class Body(Pass):
         self.demand_macros(form)
         setting = self.setting.of_macro()
         term = self.expander.expand(form[1][2], setting)
-        target = self.session.new_own(self.session.evaluate(term, setting.phase, occurrence_of(form)))
-        self.session.homes[target] = self.setting.context.number
+        value = self.session.evaluate(term, setting.phase, occurrence_of(form))
+        target = self.session.new_own(value, self.setting.context.number)
         self.bind(form[1][1], target)
 
     def bind(self, identifier, target):

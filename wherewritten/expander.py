@@ -101,7 +101,7 @@ class Expander:
         handed = form
         if session.is_at_home(target, setting.context):
             use_site = session.new_scope("use-site", at)
-            setting.context.use_sites[use_site] = True
+            setting.context.take_use_site(use_site)
             handed = added(handed, use_site)
         introduction = session.new_scope("introduction", at)
         handed = added(handed, introduction)

@@ -62,7 +62,7 @@ def run(artifacts, main, fuel):
         for kind, level, number, term in items_to_run(artifacts[module]):
             value = machine.run(block_of(term))
             if kind == "def":
-                machine.tops[(module, 0, level, number)] = value
+                machine.hold((module, 0, level, number), value)
             else:
                 told.append((module, shown(value)))
     return told

@@ -86,14 +86,26 @@ class Machine:
         self.begin(block, None, [])
         return self.finish()
 
-    def apply_value(self, procedure, given, occurrence):
-        """Return what a procedure gives for some arguments; the call has an occurrence."""
+    def apply_within(self, around, procedure, given, occurrence):
+        """Return what a procedure gives for some arguments; around is what is found until then.
+
+        An error leaves the machine as it is then: nobody goes on with it.
+        """
+        before = self.around
+        self.around = around
         if procedure[0] != "closure":
-            return applied(procedure, given, occurrence, self.around)
-        if len(given) != procedure[1].many:
+            value = applied(procedure, given, occurrence, around)
+        elif len(given) != procedure[1].many:
             raise RunError("count", occurrence)
-        self.begin(procedure[1], procedure[2], given)
-        return self.finish()
+        else:
+            self.begin(procedure[1], procedure[2], given)
+            value = self.finish()
+        self.around = before
+        return value
+
+    def hold(self, key, value):
+        """Let a variable of a module hold a value."""
+        self.tops[key] = value
 
     def finish(self):
         """Do what has begun, and return its value."""

@@ -21,8 +21,7 @@ class Session:
         self.provider = provider
         self.meanings = Table()
         self.record = Record(self.meanings)
-        self.quiet = Watching(self.record)
-        self.machine = Machine(MOST_TERMS, self.quiet)
+        self.machine = Machine(MOST_TERMS, Watching(self.record))
         # How many there are of what is counted.
         self.counts = {}
         # The scopes that were made: pairs (kind, occurrence).
@@ -31,7 +30,7 @@ class Session:
         self.depths = {}
         # The values of macros: by targets if they are local, else by (module, shift, level, number).
         self.macros = {}
-        # The numbers of the contexts in which a defmac bound local macros.
+        # The numbers of the contexts in which a defmac bound local macros, or None, by their targets.
         self.homes = {}
         # The bindings that were made or imported here, and the occurrences of the binders.
         self.bindings = []
@@ -71,10 +70,11 @@ class Session:
         """Return the target of a new local variable."""
         return ("local", self.module, self.count_on("local"))
 
-    def new_own(self, value):
-        """Return the target of a new local macro."""
+    def new_own(self, value, home=None):
+        """Return the target of a new local macro; home is the number of the context of its defmac, if any."""
         target = ("own", self.module, self.count_on("own"))
         self.macros[target] = value
+        self.homes[target] = home
         return target
 
     def bind(self, phase, identifier, target):
@@ -94,7 +94,7 @@ class Session:
     def is_at_home(self, target, context):
         """Tell whether a macro was bound by a defmac of a context."""
         if target[0] == "own":
-            return self.homes.get(target) == context.number
+            return self.homes[target] == context.number
         return target[1] == self.module and context.number == self.context.number
 
     def macro_value(self, target, phase):
@@ -113,20 +113,17 @@ class Session:
 
     def apply_macro(self, procedure, syntax, around, occurrence):
         """Return what a procedure makes of syntax while it is expanded."""
-        self.machine.around = around
         try:
-            value = self.machine.apply_value(procedure, [("syntax", syntax)], occurrence)
+            return self.machine.apply_within(around, procedure, [("syntax", syntax)], occurrence)
         except RunError as error:
             raise ExpandError("run " + error.code, occurrence) from None
-        self.machine.around = self.quiet
-        return value
 
     def do_item(self, module, shift, item, occurrence):
         """Evaluate an item in the instance of a module with a shift."""
         kind, level, number, term = item
         value = self.evaluate(term, phase_of_item(item, shift), occurrence)
         if kind == "def":
-            self.machine.tops[(module, shift, level, number)] = value
+            self.machine.hold((module, shift, level, number), value)
         elif kind == "mac":
             self.macros[(module, shift, level, number)] = value
 

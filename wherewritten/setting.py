@@ -30,6 +30,10 @@ class Context:
         self.number = number
         self.use_sites = {}
 
+    def take_use_site(self, scope):
+        """Keep a new use-site scope."""
+        self.use_sites[scope] = True
+
     def cleared(self, identifier):
         """Return an identifier without the use-site scopes."""
         scopes = tuple([scope for scope in identifier[3] if scope not in self.use_sites])

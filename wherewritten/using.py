@@ -88,9 +88,10 @@ class Readying:
 
     def make_ready(self, name, shift):
         """Make a module ready for a shift, behind its own uses."""
-        if (name, shift) in self.session.readied:
+        readied = self.session.readied
+        if (name, shift) in readied:
             return
-        self.session.readied[(name, shift)] = True
+        readied[(name, shift)] = True
         artifact = self.session.provider.artifact_of(name)
         if artifact is None:
             raise ExpandError("module", self.occurrence)

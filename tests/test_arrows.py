@@ -241,6 +241,12 @@ class TestCalling(unittest.TestCase):
         self.assertEqual(outcome(called_otherwise, {"m": "(use n)", "n": "(use m)"}, ("m", 1), "z"),
                          ("ModuleError", "cycle", ("m", "n")))
 
+    def test_texts_that_can_not_be_read(self):
+        # Nothing is written in them.
+        for text in ("(def x", "(def x 1))", " " * 6001, "x %"):
+            self.check_refused("place", {"m": text, "n": "x"}, ("m", 2), "z")
+            self.check_refused("place", {"m": text, "n": "x"}, ("m", 0), "z")
+
     def test_compile_all(self):
         self.assertEqual([made.artifact()[1] for made in compile_all({"b": "1", "c": "(use b a)", "a": "2"})], ["a", "b", "c"])
         self.assertEqual(compile_all({}), [])

@@ -56,7 +56,8 @@ class TestCode(unittest.TestCase):
         self.check(("rec", ((0, local(1)), (1, number(2))), x))
         self.check(call(fn((0,), ("do", (("set", x, number(5)), x))), number(1)))
         self.check(("rec", ((0, ("set", x, number(1))),), x))
-        self.check(("set", ("top", "m", 1, 0, AT), number(1)), ())
+        code = self.check(("set", ("top", "m", 1, 2, AT), number(1)), ())
+        self.assertEqual(code, ((0, 0, 0, (("begin", 2), ("const", ("number", 1)), ("settop", "m", 1, 2, AT), ("return",))),))
         self.check(call(fn((0,), fn((), ("set", x, call("+", x, number(1))))), number(1)))
         counter = call(fn((0,), fn((), ("set", x, call("+", x, number(1))))), number(1))
         self.check(call(fn((1,), call("list", call(local(1)), call(local(1)))), counter))
@@ -72,6 +73,9 @@ class TestCode(unittest.TestCase):
         code = self.check(call(call(fn((0,), call(fn((1,), inner), number(2))), number(1)), number(3)))
         self.assertEqual(len(code), 4)
         self.assertEqual([block[0] for block in code], [0, 1, 1, 1])
+        # An outer box is there once for each variable.
+        code = self.check(call(fn((0,), fn((), fn((), call("list", local(0), local(0)))), ), number(1)))
+        self.assertEqual([block[2] for block in code], [0, 0, 1, 1])
         deep = local(0)
         for at in range(100, 0, -1):
             deep = call(fn((at,), deep), number(at))
@@ -198,6 +202,15 @@ class TestSoundness(unittest.TestCase):
                    on_stack("top", "m", True, 0, AT), on_stack("top", "m", 0, False, AT), on_stack("top", "M", 0, 0, AT),
                    on_stack("top", 5, 0, 0, AT), on_stack("top", "m", 0, 0), on_stack("prim", "nope"), on_stack("prim", None),
                    on_stack("prim", 5), on_stack("prim"), on_stack("const"), on_stack("syntax"), on_stack("template", syn("a")))
+        a, scopes = syn("(a a b)"), (("m", 0, 0),)
+        self.check(True, on_stack("template", a, (("a", (), 0, 0), ("b", (), 0, 0), ("b", scopes, 7, 4))), on_stack("template", a, ()))
+        for rows in (None, 5, "", (5,), (None,), ((),), (("a", (), 0),), (("a", (), 0, 0, 0),), (("A", (), 0, 0),), ((1, (), 0, 0),),
+                     (("a", None, 0, 0),), (("a", (5,), 0, 0),), (("a", scopes * 2, 0, 0),), (("a", (), -1, 0),), (("a", (), True, 0),),
+                     (("a", (), 0, False),), (("a", (), 0, -1),), (("c", (), 0, 5),), (("a", (), 0, 1),), (("a", (), None, 0),),
+                     (("a", (), 0, 0), ("a", (), 1, 0)), (("c", (), 0, 1), ("d", (), 0, 2))):
+            self.check(False, on_stack("template", a, rows))
+        self.check(False, on_stack("template", syn("(... a)"), (("a", (), 0, 0), 5)), on_stack("template", syn("(a ...)"), ()),
+                   on_stack("template", 2, ()), on_stack("const", 5), on_stack("syntax", None))
         self.check(False, on_stack("close", 2, (("slot", 0), ("slot", 0))), on_stack("close", -1, ()), on_stack("close", 1, (("slot", 0),)),
                    on_stack("close", 1, ()), on_stack("close", 1, (("slot", 0), ("slot", 2))), on_stack("close", 1, (("slot", 0), ("outer", 0))),
                    on_stack("close", 1, (("slot", 0), ("slot", True))), on_stack("close", 1, (("slot", 0), ("slot",))),
@@ -207,6 +220,13 @@ class TestSoundness(unittest.TestCase):
         self.check(False, with_one("set", "outer", 0, AT), with_one("set", "slot", 2, AT), with_one("set", "slot", 1, AT),
                    with_one("set", "top", 0, AT), with_one("set", "slot", 0), with_one("set", None, 0, AT), with_one("set", "slot", False, AT),
                    with_one("settop", "m", 9, 0, AT), with_one("set", ("slot",), 0, AT))
+        good = (("begin", 1), ONE, END)
+        for row, truth in ((("outer", 0), True), (("slot", 0), False), (("nope", 0), False), ((None, 0), False), (("outer", 1), False)):
+            within = (0, 0, 1, (("begin", 1), ("close", 1, (row,)), END))
+            self.check(truth, ((0, 0, 0, good), within))
+        for kind, truth in (("outer", True), ("slot", False), ("nope", False)):
+            within = (0, 0, 1, (("begin", 1), ONE, ("set", kind, 0, AT), END))
+            self.check(truth, ((0, 0, 0, good), within))
         self.check(False, block(ONE, ("call", True, AT), END), block(ONE, ("call", -1, AT), END), block(ONE, ("call", 0, None), END),
                    block(ONE, ("tail", False, AT)), block(ONE, ("call", 0), END), block(("fill", 0), END), block(("new", 0), ONE, END),
                    block(("new", True), ONE, END, slots=2), block(ONE, ("fill", True), ONE, END, slots=2),

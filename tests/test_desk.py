@@ -241,6 +241,8 @@ class TestErrors(DeskCase):
                         ("call", "a", 2), ("call", "a", "2", "z"), ("call", "a", -1, "z"), ("call", "a", 2, 3), ("call", 2, "a", "z"),
                         (5,), (5, "a"), ("Put", "a", "1"), ("store",), ("run", "a", True), ("arrows", "a", True)):
             self.check_error("StoreError command", *command)
+        self.check_error("StoreError place", "arrows", "a", 10 ** 30)
+        self.check_error("StoreError place", "call", "a", 1000001, "z")
         self.check_error("RunError fuel none", "run", "b", 0)
         self.check("b (1 2)\nb 1\nb 2\n", "run", "b", 1000000)
 

@@ -334,6 +334,11 @@ class TestLate(ModuleCase):
         self.check_error("late", "(let () (^do (do) (def do 1) 1))")
         self.check_values("(let ((x (list 1))) (def list2 x) (let () (def list 4) (cons list list2)))", "(4 1)")
 
+    def test_each_pass_looks_at_its_own(self):
+        # The look at list is one of the group, and the body ends first.
+        self.check_error("unbound", "(list 1) (def list 2) (defmac k (let () (def x 1) ^nope))")
+        self.check_error("unbound", "(list 1) (def list 2) (up (def x ^nope))")
+
     def test_ahead_of_other_errors_of_the_pass(self):
         self.check_error("late", "(^list 1) (def list nope)")
         self.check_error("double", "(list 1) (def list 1) (def ^list 2)")

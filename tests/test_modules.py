@@ -3,6 +3,7 @@
 import unittest
 
 from checks import ModuleCase
+from inorder import is_in_order
 from helper import artifacts_of, made_of, outcome, seeded, spot
 from samples import ORDER, SAMPLES
 from wherewritten.artifacts import interface, read_artifact, write_artifact
@@ -104,6 +105,9 @@ class TestUse(ModuleCase):
             self.check_wrong("form", f"(up (up (use a ^{spec})))")
         self.check_wrong("form", "(def only 1) (use ^(only a x))")
         self.check_wrong("form", "(use ^(only nope 1))")
+        # A module that is called like a word does not make its variables words.
+        told = outcome(compile_module, "only", "(def f 1) (use (f a))", self.artifacts)
+        self.assertEqual(told, ("ExpandError", "form", ("only", 6)))
 
     def test_words_of_specs_can_have_other_names(self):
         self.check("(use c) (def only x) only", "5")
@@ -120,6 +124,10 @@ class TestUse(ModuleCase):
         self.check_wrong("offer", "(use (only a ^q) nope)")
         self.check_wrong("form", "(use ^1 nope)")
 
+    def test_modules_that_others_use(self):
+        self.check_error("module", "(use ^b)", {"b": self.artifacts["b"]})
+        self.check_error("module", "(up (use (only ^b)))", {"b": self.artifacts["b"]})
+
     def test_offer(self):
         self.check_wrong("offer", "(use (only a x ^q r))")
         self.check_wrong("offer", "(use (except a ^q))")
@@ -135,6 +143,9 @@ class TestUse(ModuleCase):
         self.check_wrong("conflict", "(use a ^c)")
         self.check_wrong("double", "(use a) (def ^x 1)")
         self.check_wrong("conflict", "(up (def z 1)) (use ^a)")
+        self.check_wrong("conflict", "(up (def x 1) (use (only a ^x)))")
+        self.check_wrong("conflict", "(up (up (use a ^c)))")
+        self.check("(up (use a) (use a (only a x))) 1", "1")
         self.check_wrong("conflict", "(use (rename a (x one) (y ^one)))")
         self.check("(def z 1) (use a) (list x z)", "(1 1)")
         self.check("(up (def y 1)) (use a) x", "1")
@@ -223,7 +234,8 @@ class TestOffer(ModuleCase):
         self.check_values("(use b) (defmac m (fn (s) (wrap x s))) (m)", "1", artifacts=artifacts)
 
     def test_form(self):
-        for spec in ("1", "()", "(as x)", "(as x y z)", "(as 1 y)", "(as x 1)", "(all x)", "(x)", "(only x)", "((all))", "(nope)", "#t"):
+        for spec in ("1", "()", "(as x)", "(as)", "(as x y z)", "(as 1 y)", "(as x 1)", "(all x)", "(all x y)", "(x)", "(only x)",
+                     "(only x y)", "((all))", "(nope)", "#t"):
             self.check_error("form", f"(def x 1) (offer ^{spec})")
             self.check_error("form", f"(up (def x 1) (offer ^{spec}))")
         self.check_error("form", "(def x 1) (def as 1) (offer ^(as x y))")
@@ -249,6 +261,12 @@ class TestOffer(ModuleCase):
         self.check_error("conflict", "(def x 1) (def y 1) (offer (as y x) ^x)")
         self.check_error("conflict", "(def x 1) (def y 2) (offer (as y x) (^all))")
         self.assertEqual(len(self.offers_of("(def x 1) (offer x x (all)) (offer x)")), 1)
+        # One name that was written once, and bound twice.
+        text = """(defmac two (fn (s) (match s () ((_ n) (match (recolored #'inner n) () (k (fill (do (def n 1) (def k 2) (offer {})))))))))
+            (two {}x)"""
+        self.check_error("conflict", text.format("n k", "^"))
+        self.check_error("conflict", text.format("k n", "^"))
+        self.assertEqual(len(self.offers_of(text.format("k k", ""))), 1)
         self.assertEqual(len(self.offers_of("(def x 1) (up (def x 1) (offer x)) (offer x)")), 2)
 
     def test_when_offers_are_taken(self):
@@ -346,6 +364,21 @@ class TestArtifacts(ModuleCase):
             (1, "s", (core, ("m", 0, 0), ("m", 1, 0), ("m", 2, 0), ("m", 3, 0)), ("local", "m", 1), ("m", spot(text, "s)"))),
             (0, "m", (core, ("m", 0, 0)), ("macro", "m", 0, 0), ("m", 2))))
 
+    def test_bindings_that_are_kept_for_all_terms(self):
+        for term in ("(letrec ((z #'y)) z)", "(letrec ((z 1)) #'y)", "(if 1 #'y 2)", "(do 1 #'y)", "(fn () #'y)", "(let ((z 1)) (set z #'y))",
+                     "(list #'y)", "(#'y)", "(fill y)", "(match 1 (y) (y 1))", "(rules () ((_) y))"):
+            names = [row[1] for row in made_of(f"(def a (let ((y 1)) {term}))").artifact()[4]]
+            self.assertEqual([name for name in names if name in "ay"], ["a", "y"], term)
+
+    def test_bindings_with_empty_sets(self):
+        binding = (0, "x", (), ("local", "m", 0), ("m", 1))
+        items = (("def", 1, 0, ("syntax", ("id", "y", ("m", 2), ()))), ("def", 0, 0, ("const", ("number", 1))))
+        for item in items:
+            artifact = ("module", "m", (), (), (binding,), (item,))
+            for shift in (0, 1):
+                kept = read_artifact(interface(artifact, shift))[4]
+                self.assertEqual(kept, (binding,) if item == items[0] else ())
+
     def test_order_of_the_numbers(self):
         # Plain items come last, though their syntax was made first.
         text = "(def a (let ((x 1)) #'x)) (defmac m (let ((y 1)) #'y))"
@@ -360,6 +393,63 @@ class TestArtifacts(ModuleCase):
         self.assertEqual(scopes[3], (core, own[0], own[3]))
         self.assertEqual(made.artifact()[5][0][3][1][2][1][3], (core, *own[:3]))
         self.assertEqual(made.artifact()[5][1][3][1][2][1][3], (core, own[0], own[3], own[4]))
+
+    def check_in_order(self, artifact, *names):
+        """The artifact has bindings of these names, and is numbered as point 44 tells."""
+        self.assertEqual([row[1] for row in artifact[4]], list(names))
+        self.assertTrue(is_in_order(artifact, {}))
+
+    def test_numbers_of_scopes_that_come_late(self):
+        text = "(defmac m (rules () ((_ a) a))) (m 1) (m 2) (def f (fn (x) #'x)) (up (def g (fn (y) #'y)))"
+        made = made_of(text)
+        artifact = made.artifact()
+        self.check_in_order(artifact, "m", "f", "g", "y", "x")
+        core, own = ("core", 0, 0), [("m", number, 0) for number in range(5)]
+        self.assertEqual([row[2] for row in artifact[4][3:]], [(core, own[0], own[1]), (core, own[0], own[3])])
+        syntax = {item[:3]: item[3][2][1][3] for item in artifact[5] if item[3][0] == "fn"}
+        self.assertEqual(syntax, {("def", 1, 0): (core, *own[:3]), ("def", 0, 0): (core, own[0], own[3], own[4])})
+        self.assertEqual([kind for kind, _ in made.scopes()].count("introduction"), 2)
+
+    def test_numbers_in_the_order_of_standing(self):
+        artifact = made_of("(defmac m2 1) (defmac m (list (let ((a 1)) #'a) (let ((b 1)) #'b)))").artifact()
+        self.check_in_order(artifact, "m2", "a", "b", "m")
+        core, own = ("core", 0, 0), [("m", number, 0) for number in range(5)]
+        a, b = artifact[5][1][3][2]
+        self.assertEqual(a[1][2][1][3], (core, own[0], own[1], own[3]))
+        self.assertEqual(b[1][2][1][3], (core, own[0], own[2], own[4]))
+
+    def test_scopes_of_others_stay(self):
+        artifacts = artifacts_of({"a": "(defmac m (rules () ((_ e) (let ((t e)) #'(t e))))) (offer m)"})
+        artifact = made_of("(use a) (def x (let ((q 1)) (m q)))", "z", artifacts).artifact()
+        self.assertTrue(is_in_order(artifact, artifacts))
+        scopes = {scope for row in artifact[4] for scope in row[2]}
+        self.assertIn(("a", 0, 0), scopes)
+        self.assertEqual(sorted(scope for scope in scopes if scope[0] == "z"), [("z", number, 0) for number in range(len(scopes) - 2)])
+
+    def test_bindings_of_which_no_syntax_has_all_scopes(self):
+        text = "(defmac m (rules () ((_ e) (do #'q (let ((t 1)) e))))) (def f (fn (x) (m #'x)))"
+        artifact = made_of(text).artifact()
+        self.check_in_order(artifact, "m", "f", "x")
+
+    def test_a_binding_that_only_a_plain_item_keeps(self):
+        # z is bound at phase 1, ahead of w; of what has its scopes only a term of level 0 is left.
+        artifact = made_of("""(up (up (def kept #'1)) (let ((z 1)) (letmac ((j (set kept #'z))) 5))
+            (defmac get (fn (s) (join (list #'syntax kept) s)))) (defmac later (let ((w 1)) #'w))
+            (def a (letmac ((g (let ((v (get))) (fn (s) (join (list #'syntax v) s))))) (g)))""").artifact()
+        names = [row[1] for row in artifact[4]]
+        self.assertLess(names.index("z"), names.index("w"))
+        self.assertTrue(is_in_order(artifact, {}))
+        self.assertNotIn("z", [row[1] for row in read_artifact(interface(artifact, 0))[4]])
+        self.assertIn("z", [row[1] for row in read_artifact(interface(artifact, 1))[4]])
+
+    def test_syntax_in_all_terms_is_shifted(self):
+        for term in ("#'helper", "(do 1 #'helper)", "(if #t #'helper 1)", "(if #f 1 #'helper)", "(let ((x #'helper)) x)",
+                     "(letrec ((x #'helper)) x)", "(let () (def x 1) #'helper)", "(let ((x 1)) (set x #'helper))", "((fn () #'helper))",
+                     "(first (parts #'(helper)))", "(match s () (a (fill helper)))", "((rules () ((_) helper)) #'(m))",
+                     "(match #'(helper 1) (helper) ((helper a) #'helper))"):
+            artifacts = artifacts_of({"a": f"(def helper 5) (defmac m (fn (s) {term})) (offer m)"})
+            self.check_values("(use a) (list (m)) (up (use a) (def q (m))) (defmac k (fn (s) (wrap q s))) (k)", "(5)", "5",
+                              artifacts=artifacts)
 
     def test_module_names_ahead_of_core(self):
         artifact = made_of("(def x #'x)", "a").artifact()

@@ -152,6 +152,10 @@ class TestLooks(ScopeCase):
         text = "(defmac m (fn (s) (list s s))) (letmac ((n (fn (t) t))) 1) (let () (defmac k (fn (u) u)) 2)"
         self.assertEqual(copies(made_of(text)), [(self.at(text, "s s)"), 1), (self.at(text, "s)))"), 1)])
 
+    def test_copies_in_all_terms(self):
+        text = "(def x 1) (def y (letrec ((f x) (g f)) (if f (do 1 g) (set f x))))"
+        self.assertEqual(copies(made_of(text)), [(self.at(text, mark), 1) for mark in ("x) (g", "f)) (if", "f (do", "g) (set", "f x))))", "x))))")])
+
     def test_copies_of_a_match(self):
         text = "(match 1 () ((a b) a) (c c))"
         o = ("m", 0)

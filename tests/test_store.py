@@ -221,6 +221,9 @@ class TestBuilding(StoreCase):
         self.assertEqual(outcome(store.build, "f"), ("ModuleError", "cycle", ("b", "c", "d")))
         self.assertEqual(outcome(store.build, "c"), ("ModuleError", "cycle", ("c", "d", "b")))
         self.assertEqual(outcome(store.build, "e"), ("ExpandError", "module", ("e", 2)))
+        # What has ended is no part of a cycle.
+        ended = store_of({"a": "(use x) (use b)", "x": "(use y)", "y": "1", "b": "(use y x a)"})
+        self.assertEqual(outcome(ended.build, "a"), ("ModuleError", "cycle", ("a", "b")))
         store.put("d", "1")
         self.assertEqual([row[0] for row in store.build("f")], ["d", "c", "b", "a", "f"])
         # A cycle that comes by a change is met when notes are asked.
@@ -252,7 +255,7 @@ class TestBuilding(StoreCase):
                              "ExpandError" if wrong == "nope" else "ModuleError")
             store.put("a", texts["a"].replace("(use n)", "5"))
             told = {name: store.text(name) for name in store.names()}
-            store.build("d")
+            self.assertEqual(store.build("d"), [("a", "text", None), ("b", "interface", "c"), ("d", "interface", "b")])
             fresh, artifacts = build_anew(told, "d")
             self.assertEqual(fresh[0], "gives")
             for name in ("a", "b", "d"):

@@ -56,6 +56,13 @@ class TestExpanded(ModuleCase):
         self.check_wrong("unbound", "(list ^x)")
         self.check_wrong("place", "^(def x 1)")
 
+    def test_phase_and_depth(self):
+        nested = "(letmac ((a (recmac ((b (letmac ((c {})) 1))) 1))) 1)"
+        self.check(nested.format("1"), "1")
+        self.check_wrong("phases", nested.format("^(letmac () 1)"))
+        self.check("(do " * 40 + "1" + ")" * 40, "1")
+        self.check_wrong("deep", "(do " * 41 + "^1" + ")" * 41)
+
     def test_it_uses_nothing(self):
         self.check_wrong("place", "^(use main)")
 
@@ -72,6 +79,19 @@ class TestExpressions(ModuleCase):
         self.check_error("word", "^fn")
         self.check_error("word", "((list ^do) 1)")
         self.check_error("word", "(fn (x) ^quote)")
+        for word in ("do", "def", "defmac", "use", "offer", "up", "all", "match", "fill"):
+            self.check_error("word", f"1 ^{word}")
+            self.check_error("word", f"(let () ^{word})")
+
+    def test_terms_of_identifiers(self):
+        items = made_of("(def x list) (fn (y) y x)").artifact()[5]
+        self.assertEqual([item[3] for item in items], [
+            ("prim", "list"), ("fn", (0,), ("do", (("local", 0, ("m", 8)), ("top", "m", 0, 0, ("m", 9)))))])
+
+    def test_modules_that_are_called_like_words(self):
+        for name in ("do", "def", "up", "macro", "word"):
+            made = compile_module(name, "(def f list) (f 1 2) (f)", {})
+            self.assertEqual([item[0] for item in made.artifact()[5]], ["def", "expr", "expr"])
 
     def test_words_and_primitives_have_no_standing(self):
         self.check_values("(let ((if list) (list 5)) (if list list))", "(5 5)")
@@ -100,6 +120,9 @@ class TestExpressions(ModuleCase):
             self.check_error("place", f"(up ^{form})")
         for form in ("(only a)", "(all)", "(up 1)", "(use a)", "(offer x)"):
             self.check_error("place", f"(fn (x) 1 ^{form})")
+            # The first pass meets them, ahead of what is wrong in expressions.
+            self.check_error("place", f"(fn (x) nope ^{form})")
+        self.check_error("place", "nope ^(as x y)")
 
     def test_deep(self):
         # Each of these stands for one expression, and for up to three lists.
@@ -148,8 +171,10 @@ class TestExpressions(ModuleCase):
         self.check_error("scope", text.format("1", "(get)"))
         self.check_error("scope", text.format("1", "(list (run))"))
         self.check_error("set", text.format("1", "(put)"))
-        # Bodies look at it in the first pass, ahead of what is wrong in other forms.
-        self.check_error("scope", text.format("1", "(run) nope"))
+        # Bodies look at it in the first pass, but variables are only used in the second one.
+        self.check_error("scope", text.format("1", "nope (run)"))
+        text = text.replace("^", "").replace("(letmac ((x (rules () ((_ e) e))))", "(let ((x 1))")
+        self.check_error("form", text.format("x", "(run) ^(def 1 2)"))
 
     def test_which_of_two_errors(self):
         self.check_error("unbound", "(list ^one two)")

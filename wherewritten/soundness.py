@@ -2,20 +2,18 @@
 
 from wherewritten.procedures import PRIMITIVES
 from wherewritten.table import LAST_PHASE
-from wherewritten.validity import (
-    is_count, is_module_name, is_occurrence, is_pattern_form, is_plain, is_rules_form, is_syntax,
-    is_template,
-)
+from wherewritten.validity import is_count, is_module_name, is_occurrence, is_template_for
 
-# The kinds of what stands behind the words of instructions.
+# The kinds of what stands behind the words of instructions. Plain values, syntax and forms are
+# right ones: nothing in them is looked at.
 OPERANDS = {
     "begin": ("many",),
-    "const": ("plain",),
-    "syntax": ("syntax",),
-    "rules": ("rules",),
+    "const": ("right",),
+    "syntax": ("right",),
+    "rules": ("right",),
     "prim": ("prim",),
-    "pattern": ("pattern",),
-    "template": ("any", "any"),
+    "pattern": ("right",),
+    "template": ("right", "any"),
     "slot": ("slot", "occurrence"),
     "outer": ("outer", "occurrence"),
     "top": ("module", "level", "count", "occurrence"),
@@ -33,8 +31,8 @@ OPERANDS = {
 }
 ENDS = ("tail", "return", "jump")
 
-# How many values an instruction takes, and how many it puts on the stack, but for calls.
-TAKEN = {"unless": 1, "drop": 1, "return": 1, "fill": 1, "set": 1, "settop": 1}
+# How many values an instruction takes, and how many it puts on the stack, but for calls and return.
+TAKEN = {"unless": 1, "drop": 1, "fill": 1, "set": 1, "settop": 1}
 STACKED = {
     "const": 1, "syntax": 1, "rules": 1, "prim": 1, "pattern": 1, "template": 1, "slot": 1, "outer": 1,
     "top": 1, "close": 1, "set": 1, "settop": 1,
@@ -47,14 +45,8 @@ def _is_below(value, bound):
 
 def _is_of_form(value, kind):
     """Tell whether a value is of a kind that does not hang on the block."""
-    if kind == "plain":
-        return is_plain(value)
-    if kind == "syntax":
-        return is_syntax(value)
-    if kind == "rules":
-        return is_rules_form(value)
-    if kind == "pattern":
-        return is_pattern_form(value)
+    if kind == "right":
+        return isinstance(value, tuple)
     if kind == "prim":
         return isinstance(value, str) and value in PRIMITIVES
     if kind == "module":
@@ -125,7 +117,7 @@ class BlockChecker:
             if not self.fits(value, kind, at):
                 return False
         if word == "template":
-            return is_template(instruction[1], instruction[2])
+            return is_template_for(instruction[1], instruction[2])
         if word == "close":
             return self.are_rows(instruction[2], self.code[instruction[1]])
         return word != "set" or self.is_row(instruction[1], instruction[2])

@@ -35,7 +35,8 @@ class Record:
         kind, target, giver = told
         occurrence = occurrence_of(identifier)
         self.log.append((phase, identifier, None, target))
-        self.tales.setdefault(occurrence, {})[(phase, identifier[3], kind, target)] = True
+        tale = self.tales.setdefault(occurrence, {})
+        tale[(phase, identifier[3], kind, target)] = True
         if giver is not None:
             self.note_arrow(occurrence, giver)
         elif target is not None and is_core(target):

@@ -123,3 +123,45 @@ class RandomModules:
         for name in "abc"[:self.rng.choice([1, 2, 2, 3])]:
             texts[name] = self.module(list(texts))
         return texts
+
+
+class WildForms:
+    """Texts of forms that are put together without much care: most are wrong somewhere."""
+
+    LEAVES = ["x", "y", "m", "a", "b", "s", "k", "list", "if", "fn", "def", "do", "fill", "+", "first", "wrap", "free=?", "1", "0", "#t",
+              "#f", "\"s\"", "...", "_"]
+    SPECS = ["a", "count", "logic", "(only logic cond)", "(rename count (bump x))", "(except count three)", "(only a)"]
+    OFFERS = ["x", "(all)", "(as x y)", "m", "(as m x)"]
+
+    def __init__(self, rng):
+        self.rng = rng
+
+    def name(self):
+        return self.rng.choice(["x", "y", "m", "a", "b", "k", "list", "if"])
+
+    def form(self, deep):
+        rng = self.rng
+        if deep <= 0 or rng.random() < 0.35:
+            return rng.choice(self.LEAVES)
+        shape = rng.choice([
+            "'F", "#'F", "(F F)", "(F F F)", "()", "(def N F)", "(def N F)", "(defmac N F)", "(fn (N) F)", "(let ((N F)) F F)",
+            "(letrec ((N F)) F F)", "(letmac ((N F)) F F)", "(recmac ((N F)) F)", "(match F () (F F) (N F))", "(match F (k) (F F))",
+            "(fill F)", "(rules (k) ((_ N) F) (_ F))", "(if F F F)", "(set N F)", "(do F F)", "(up F F)", "(use U)", "(offer O)",
+            "(defmac N (fn (s) (match s () ((_ a b) F) ((_ a) (fill (do (def x 1) a))) (a #'F))))",
+            "(defmac N (fn (s) (match s () ((_ a b) (fill (def a 1))) ((_ a) a))))",
+            "(defmac N (rules (k) ((_ k) F) ((_ a) F) ((_ a ...) (do a ...))))",
+            "(defmac N (fn (s) (match s () ((_ m a ...) ((local-value m) (fill (m a ...)))) ((_ a) (recolored #'x a)))))",
+            "(defmac N (fn (s) (match s () ((_ a) (match (fresh a) () (f (fill (let ((f 1)) a))))) ((_ a b) (join (list a b) s)))))"])
+        pieces = []
+        for sign in shape:
+            pieces.append({"F": lambda: self.form(deep - 1), "N": self.name, "U": lambda: rng.choice(self.SPECS),
+                           "O": lambda: rng.choice(self.OFFERS)}.get(sign, lambda: sign)())
+        return "".join(pieces)
+
+    def text(self):
+        head = ""
+        if self.rng.random() < 0.6:
+            head = """(defmac m (rules (k) ((_ k) 1) ((_ a) a) ((_ a b) (def a b)))) (def x 1)
+                (defmac y (fn (s) (match s () ((_ a) (fill (list a x)))))) """
+        forms = [self.form(self.rng.randrange(2, 6)) for _ in range(self.rng.randrange(1, 5))]
+        return (head + " ".join(forms))[:6000]

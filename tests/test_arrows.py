@@ -242,10 +242,13 @@ class TestCalling(unittest.TestCase):
                          ("ModuleError", "cycle", ("m", "n")))
 
     def test_texts_that_can_not_be_read(self):
-        # Nothing is written in them.
-        for text in ("(def x", "(def x 1))", " " * 6001, "x %"):
-            self.check_refused("place", {"m": text, "n": "x"}, ("m", 2), "z")
-            self.check_refused("place", {"m": text, "n": "x"}, ("m", 0), "z")
+        # The names are written in them all the same.
+        for text, told in (("(def x", 6), ("(def x 1))", 9), ("(def x)" + " " * 6000, 6000), ("(def x A)", 7)):
+            texts = {"m": text, "n": "nope"}
+            self.assertEqual(outcome(called_otherwise, texts, ("m", 2), "z"), ("ReadError", told))
+            self.check_refused("place", texts, ("m", 0), "z")
+            self.check_refused("place", texts, ("m", 3), "z")
+            self.check_refused("name", texts, ("m", 2), "Z")
 
     def test_compile_all(self):
         self.assertEqual([made.artifact()[1] for made in compile_all({"b": "1", "c": "(use b a)", "a": "2"})], ["a", "b", "c"])

@@ -188,7 +188,7 @@ def offsets(text):
 
 
 def spelled(text):
-    """Return where the names of a text that can be read are spelled out, and where signs stand for names.
+    """Return where the names of a text are spelled out, and where signs stand for names.
 
     The first one is a dict from places to pairs (start, end), the second one a list of places.
     """

@@ -472,7 +472,7 @@ class Plain:
         numbers = self.new_locals([add(x, scope) for x in xs], phase, env)
         for k, (_, deep) in enumerate(maker.bound):
             self.depths[("local", self.module, before + k)] = deep
-        body = self.body(at(clause), [add(form, scope) for form in clause[1][1:]], phase, env, around + 2 + ahead)
+        body = self.body(at(clause), [add(form, scope) for form in clause[1][1:]], phase, env, around + 3 + ahead)
         return r, ("pattern", ("list", (literals, scoped(pattern)), at(clause))), numbers, body
 
     def word_fill(self, s, parts, phase, env, around, context):

@@ -105,19 +105,20 @@ class TestMatch(ModuleCase):
     def test_deep(self):
         clauses = " (1 2)"
         self.check_compiles("(match 1 ()" + clauses * 38 + ")")
-        # The body of a clause is inside of two more, and of as many as there are clauses ahead of it.
-        self.check_compiles("(match 1 ()" + clauses * 38 + "(1 2))")
-        self.check_error("deep", "(match 1 ()" + clauses * 39 + "(1 ^2))")
+        # The body of a clause is inside of the match, of two more, and of as many as there are clauses ahead of it.
+        self.check_error("deep", "(match 1 ()" + clauses * 38 + "(1 ^2))")
+        self.check_error("deep", "(match 1 ()" + clauses * 38 + "(1 ^2) (1 2))")
         self.check_error("deep", "^(match 1 ()" + clauses * 41 + ")")
         self.check_error("deep", "^(match nope ()" + clauses * 41 + ")")
         self.check_error("form", "^(match nope ()" + clauses * 41 + " 1)")
         around = "(do " * 20 + "{}" + ")" * 20
         self.check_error("deep", "(def x " + around.format("^(match 1 ()" + clauses * 21 + ")") + ")")
-        self.check_error("deep", "(def x " + around.format("(match 1 ()" + clauses * 19 + "(1 ^2))") + ")")
-        self.check_compiles("(def x " + around.format("(match 1 ()" + clauses * 19 + ")") + ")")
-        nested = "(match 1 () (1 " * 20 + "{}2" + "))" * 20
+        self.check_error("deep", "(def x " + around.format("(match 1 ()" + clauses * 18 + "(1 ^2))") + ")")
+        self.check_compiles("(def x " + around.format("(match 1 ()" + clauses * 18 + ")") + ")")
+        nested = "(match 1 () (1 " * 13 + "{}2" + "))" * 13
         self.check_compiles("(def x " + nested.format("") + ")")
-        self.check_error("deep", "(def x (do " + nested.format("^") + "))")
+        self.check_compiles("(def x (do " + nested.format("") + "))")
+        self.check_error("deep", "(def x (do (do " + nested.format("^") + ")))")
 
     def test_macros_that_make_clauses(self):
         self.check_values("""(up (defmac clause-for (rules () ((_ s (p r) ...) (match s () (p (fill r)) ...)))))

@@ -75,7 +75,8 @@ def _expand_clause(expander, form, index, setting):
     environment = Environment(setting.environment)
     numbers = _bind_variables(expander, bound, scope, setting.phase, environment)
     forms = [added(part, scope) for part in clause[1][1:]]
-    term = expand_body(expander, forms, at, setting.inside(environment, 2 + index))
+    # As the body of a fn in the match it would be inside of one more; it is inside of two beyond that.
+    term = expand_body(expander, forms, at, setting.inside(environment, 3 + index))
     return (made, result, numbers, term)
 
 

@@ -242,13 +242,16 @@ class TestCalling(unittest.TestCase):
                          ("ModuleError", "cycle", ("m", "n")))
 
     def test_texts_that_can_not_be_read(self):
-        # The names are written in them all the same.
-        for text, told in (("(def x", 6), ("(def x 1))", 9), ("(def x)" + " " * 6000, 6000), ("(def x A)", 7)):
+        # No identifier is written out in them, wherever the token is that cannot stand there.
+        for text in ("(def x", "(def x 1))", "(def x)" + " " * 6000, "(def x A)", "(def x \"", ") (def x 1)"):
             texts = {"m": text, "n": "nope"}
-            self.assertEqual(outcome(called_otherwise, texts, ("m", 2), "z"), ("ReadError", told))
-            self.check_refused("place", texts, ("m", 0), "z")
-            self.check_refused("place", texts, ("m", 3), "z")
-            self.check_refused("name", texts, ("m", 2), "Z")
+            for place in range(6):
+                self.check_refused("place", texts, ("m", place), "z")
+                self.check_refused("place", texts, ("m", place), "Z")
+        # In others one is written out, and they meet the errors of reading these.
+        texts = {"m": "(def x 1)", "n": "(def x"}
+        self.check_refused("name", texts, ("m", 2), "Z")
+        self.assertEqual(outcome(called_otherwise, texts, ("m", 2), "z"), ("ReadError", 6))
 
     def test_compile_all(self):
         self.assertEqual([made.artifact()[1] for made in compile_all({"b": "1", "c": "(use b a)", "a": "2"})], ["a", "b", "c"])

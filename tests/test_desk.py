@@ -231,6 +231,12 @@ class TestErrors(DeskCase):
         self.check_error("StoreError place", "group", "d", 0)
         self.check_error("StoreError absent", "steps", "d")
         self.check_error("ExpandError unbound c:2", "arrows", "c", 2)
+        for text in ("(list x", "(use x) )", "(list x) 1x"):
+            self.check("done\n", "put", "d", text)
+            for place in range(4):
+                for command in (("arrows", "d", place), ("group", "d", place), ("call", "d", place, "z")):
+                    self.check_error("StoreError place", *command)
+        self.check_error("ExpandError unbound c:2", "arrows", "a", 2)
 
     def test_commands(self):
         for command in ((), ("nope",), ("put",), ("put", "a"), ("put", "a", "1", "2"), ("put", "a", 1), ("put", 1, "a"), ("drop",),

@@ -2,8 +2,8 @@
 
 from wherewritten.arrows import all_arrows, all_fixed, all_links, group
 from wherewritten.building import Building
-from wherewritten.errors import StoreError, WhereError
-from wherewritten.reading import LONGEST_TEXT, is_name, spelled
+from wherewritten.errors import ReadError, StoreError, WhereError
+from wherewritten.reading import LONGEST_TEXT, is_name, read, spelled
 
 
 def compile_all(texts):
@@ -16,9 +16,16 @@ def compile_all(texts):
 
 
 def is_written(texts, occurrence):
-    """Tell whether an identifier is written out at an occurrence, also in a text that cannot be read."""
+    """Tell whether an identifier is written out at an occurrence."""
     module, place = occurrence
-    return module in texts and place in spelled(texts[module])[0]
+    if module not in texts:
+        return False
+    try:
+        read(texts[module])
+    except ReadError:
+        # Such a text gives no data, so it has no places.
+        return False
+    return place in spelled(texts[module])[0]
 
 
 def _renamed(text, places, name):

@@ -22,6 +22,10 @@ FUNCTIONS = {
     "calling": ["called_otherwise(texts, occurrence, name)", "compile_all(texts)"],
     "looks": ["growths(compiled)", "copies(compiled)", "loose(made)", "reach(artifacts, main)"],
     "coding": ["code_of(term)", "is_sound(code)"],
+    "running": ["run_code(code, fuel)", "run_linked(artifacts, main, fuel)", "deepest_run(code, fuel)"],
+    "layout": ["laid_out(text, width)", "remarks(text)"],
+    "counts": ["miscounts(artifact)"],
+    "library": ["library()"],
 }
 
 CLASSES = {

@@ -3,13 +3,13 @@
 from wherewritten.applying import PatternProcedure, RulesProcedure, TemplateProcedure
 from wherewritten.machine import (
     Block, do_call, do_close, do_drop, do_fill, do_jump, do_local, do_return, do_set, do_set_top,
-    do_top, do_unless, do_value,
+    do_top, do_unless, do_value, key_of_top,
 )
 from wherewritten.rules import Rules
 from wherewritten.values import value_of
 
 
-def _value_of_term(term):
+def value_of_term(term):
     """Return the value of a term whose value does not hang on variables."""
     kind = term[0]
     if kind == "const":
@@ -29,7 +29,7 @@ def _add_variable(block, variable, do_with_local, do_with_top):
         hops, place = block.address(variable[1])
         block.add_step(do_with_local, hops, place, variable[2])
     else:
-        block.add_step(do_with_top, block.key_of(variable), None, variable[4])
+        block.add_step(do_with_top, key_of_top(variable, block.phase), None, variable[4])
 
 
 def _add_term(block, term, is_last):
@@ -70,7 +70,7 @@ def _add_term(block, term, is_last):
         _add_term(block, term[2], False)
         _add_variable(block, term[1], do_set, do_set_top)
     else:
-        block.add_step(do_value, _value_of_term(term))
+        block.add_step(do_value, value_of_term(term))
 
 
 def block_of(term, phase=0):

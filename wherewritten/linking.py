@@ -54,15 +54,19 @@ def program(artifacts, main):
     return "".join(lines)
 
 
-def run(artifacts, main, fuel):
-    """Return the list of the pairs (module, shown value) of the expressions of a program."""
-    machine = Machine(fuel, NoExpansion())
+def run_with(machine, made, artifacts, main):
+    """Return what a program gives on a machine that runs what a function makes of terms."""
     told = []
     for module in order(artifacts, main):
         for kind, level, number, term in items_to_run(artifacts[module]):
-            value = machine.run(block_of(term))
+            value = machine.run(made(term))
             if kind == "def":
                 machine.hold((module, 0, level, number), value)
             else:
                 told.append((module, shown(value)))
     return told
+
+
+def run(artifacts, main, fuel):
+    """Return the list of the pairs (module, shown value) of the expressions of a program."""
+    return run_with(Machine(fuel, NoExpansion()), block_of, artifacts, main)

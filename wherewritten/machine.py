@@ -12,6 +12,12 @@ from wherewritten.applying import applied
 from wherewritten.errors import RunError
 
 
+def key_of_top(variable, phase):
+    """Return where a machine keeps a variable of a module that stands at a phase: with the shift of its instance."""
+    _, module, level, number, _ = variable
+    return (module, phase - level, level, number)
+
+
 class Block:
     """The steps of a term, and where its variables are."""
 
@@ -44,11 +50,6 @@ class Block:
             block = block.around
             hops += 1
         return (hops, block.places[variable])
-
-    def key_of(self, variable):
-        """Return where a machine keeps a variable of a module: with the shift of its instance."""
-        _, module, level, number, _ = variable
-        return (module, self.phase - level, level, number)
 
     def add_step(self, action, first=None, second=None, third=None):
         """Add a step, with which all terms begin that have begun since the last one."""

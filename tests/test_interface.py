@@ -26,6 +26,11 @@ FUNCTIONS = {
     "layout": ["laid_out(text, width)", "remarks(text)"],
     "counts": ["miscounts(artifact)"],
     "library": ["library()"],
+    "written": ["written_out(artifacts, main)"],
+    "pruning": ["needed(artifacts, main)", "pruned(artifacts, main)", "run_pruned(artifacts, main, fuel)"],
+    "simplifying": ["simplified(term)", "simplified_artifact(artifact)"],
+    "checking": ["fault(value, artifacts)", "is_term(value)", "is_syntax_value(value)"],
+    "visible": ["visible(compiled, occurrence)"],
 }
 
 CLASSES = {

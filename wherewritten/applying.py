@@ -62,30 +62,33 @@ class PatternProcedure:
         return small_list(list_of(parts), occurrence)
 
 
+def template_for(syntax, rows):
+    """Return the template of syntax with the variables of some rows."""
+    numbers = {}
+    for name, scopes, number, deep in rows:
+        numbers[(name, scopes)] = (number, deep)
+    return Template(syntax, numbers)
+
+
 class TemplateProcedure:
     """What a term template gives: it fills a template with its arguments."""
 
     def __init__(self, syntax, rows):
-        numbers = {}
-        depths = []
-        for name, scopes, number, deep in rows:
-            numbers[(name, scopes)] = (number, deep)
-            while len(depths) <= number:
-                depths.append(0)
-            depths[number] = deep
-        self.template = Template(syntax, numbers)
-        self.depths = tuple(depths)
+        self.template = template_for(syntax, rows)
+        # How many arguments it takes, and the depths of those that are not 0 deep, by their numbers.
+        self.many = max([number + 1 for _, _, number, _ in rows], default=0)
+        self.depths = {number: deep for _, _, number, deep in rows}
 
     def apply_to(self, given, occurrence, around):
         """Return the syntax that filling makes."""
-        if len(given) != len(self.depths):
+        if len(given) != self.many:
             raise RunError("count", occurrence)
-        for arg, deep in zip(given, self.depths):
-            if not _is_listed(arg, deep):
+        for number, arg in enumerate(given):
+            if not _is_listed(arg, self.depths.get(number, 0)):
                 raise RunError("kind", occurrence)
         got = {}
-        for number, deep in enumerate(self.depths):
-            got[number] = _unlisted(given[number], deep)
+        for number, arg in enumerate(given):
+            got[number] = _unlisted(arg, self.depths.get(number, 0))
         return ("syntax", self.template.fill(got, occurrence))
 
 

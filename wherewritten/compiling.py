@@ -79,6 +79,10 @@ class Compiled:
         """Return the list of what was resolved of what was written at an occurrence."""
         return list(self.session.record.tales.get(occurrence, {}))
 
+    def names_bound(self, phase, scopes):
+        """Return the ascending list of the names of which an identifier with a set is bound at a phase."""
+        return self.session.meanings.bound_names(phase, scopes)
+
 
 def _begin(name, text, provider):
     """Return a session and the syntax of the forms of a text."""

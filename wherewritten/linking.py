@@ -31,34 +31,37 @@ def order(artifacts, main):
     return found
 
 
-def items_to_run(artifact):
-    """Return the list of the items of a module that are part of programs."""
-    return [item for item in artifact[5] if item[0] != "mac" and item[1] == 0]
+def linked(artifacts, main):
+    """Return the program of a main module: the list of the pairs (module, list of its items in the program)."""
+    found = []
+    for module in order(artifacts, main):
+        items = [item for item in artifacts[module][5] if item[0] != "mac" and item[1] == 0]
+        found.append((module, items))
+    return found
 
 
-def item_line(module, item):
-    """Return the line of an item of a program."""
+def _item_line(module, item):
     kind, level, number, term = item
     if kind == "def":
         return f"(def {module}:{level}:{number} {show_term(term)})\n"
     return show_term(term) + "\n"
 
 
-def program(artifacts, main):
-    """Return the text of the program of a main module."""
+def program_text(rows):
+    """Return the text of a program."""
     lines = []
-    for module in order(artifacts, main):
+    for module, items in rows:
         lines.append(f"module {module}\n")
-        for item in items_to_run(artifacts[module]):
-            lines.append(item_line(module, item))
+        for item in items:
+            lines.append(_item_line(module, item))
     return "".join(lines)
 
 
-def run_with(machine, made, artifacts, main):
+def run_rows(machine, made, rows):
     """Return what a program gives on a machine that runs what a function makes of terms."""
     told = []
-    for module in order(artifacts, main):
-        for kind, level, number, term in items_to_run(artifacts[module]):
+    for module, items in rows:
+        for kind, level, number, term in items:
             value = machine.run(made(term))
             if kind == "def":
                 machine.hold((module, 0, level, number), value)
@@ -67,6 +70,16 @@ def run_with(machine, made, artifacts, main):
     return told
 
 
+def run_plainly(rows, fuel):
+    """Return what a program gives with some fuel: the list of the pairs (module, shown value)."""
+    return run_rows(Machine(fuel, NoExpansion()), block_of, rows)
+
+
+def program(artifacts, main):
+    """Return the text of the program of a main module."""
+    return program_text(linked(artifacts, main))
+
+
 def run(artifacts, main, fuel):
     """Return the list of the pairs (module, shown value) of the expressions of a program."""
-    return run_with(Machine(fuel, NoExpansion()), block_of, artifacts, main)
+    return run_plainly(linked(artifacts, main), fuel)

@@ -9,7 +9,7 @@ from wherewritten.blocks import value_of_term
 from wherewritten.coding import code_of
 from wherewritten.errors import RunError
 from wherewritten.expanding import NoExpansion
-from wherewritten.linking import run_with
+from wherewritten.linking import linked, run_rows
 from wherewritten.machine import key_of_top
 from wherewritten.values import shown
 
@@ -229,7 +229,7 @@ def run_code(code, fuel):
 
 def run_linked(artifacts, main, fuel):
     """Return the list of the pairs (module, shown value) of a program, by way of code."""
-    return run_with(Runner(fuel), code_of, artifacts, main)
+    return run_rows(Runner(fuel), code_of, linked(artifacts, main))
 
 
 def deepest_run(code, fuel):

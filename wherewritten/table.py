@@ -69,3 +69,12 @@ class Table:
             else:
                 known[key] = (outcome[0], None, None)
         return known[key]
+
+    def bound_names(self, phase, scopes):
+        """Return the ascending list of the names of which an identifier with a set is bound at a phase."""
+        found = []
+        for name in sorted(list(self.by_name)):
+            # Where an identifier was written does not matter for what it is bound to.
+            if self.resolved(phase, ("id", name, None, scopes))[0] == "bound":
+                found.append(name)
+        return found

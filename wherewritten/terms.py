@@ -55,13 +55,35 @@ def _show_syntax_in(term):
     return "(" + kind + " " + _show_parts(parts, numbers) + ")"
 
 
+class Names:
+    """The names of the variables in a text of terms."""
+
+    def __init__(self, tops):
+        # Those of local variables by their numbers, and some of modules by (module, level, number).
+        self.local_names = {}
+        self.top_names = {key: tops[key] for key in tops}
+
+    def give(self, variables):
+        """Give local variables the next names, and return these with spaces between them."""
+        for variable in variables:
+            self.local_names[variable] = f"v{len(self.local_names)}"
+        return " ".join([self.local_names[variable] for variable in variables])
+
+    def name_of_top(self, term):
+        """Return the name of a variable of a module."""
+        _, module, level, number, _ = term
+        if (module, level, number) in self.top_names:
+            return self.top_names[(module, level, number)]
+        return f"{module}:{level}:{number}"
+
+
 def _show_leaf(term, names):
     """Return the text of a term without terms in it."""
     kind = term[0]
     if kind == "local":
-        return names[term[1]]
+        return names.local_names[term[1]]
     if kind == "top":
-        return f"{term[1]}:{term[2]}:{term[3]}"
+        return names.name_of_top(term)
     if kind == "const":
         return _show_const(term[1])
     if kind == "prim":
@@ -69,18 +91,11 @@ def _show_leaf(term, names):
     return _show_syntax_in(term)
 
 
-def _name_variables(variables, names):
-    """Give variables the next names, and return these with spaces between them."""
-    for variable in variables:
-        names[variable] = f"v{len(names)}"
-    return " ".join([names[variable] for variable in variables])
-
-
 def _show_rec(term, names):
-    _name_variables([variable for variable, _ in term[1]], names)
+    names.give([variable for variable, _ in term[1]])
     pieces = ["(letrec ("]
     for at, (variable, part) in enumerate(term[1]):
-        pieces.extend([" (" if at > 0 else "(", names[variable], " ", part, ")"])
+        pieces.extend([" (" if at > 0 else "(", names.local_names[variable], " ", part, ")"])
     return [*pieces, ") ", term[2], ")"]
 
 
@@ -98,7 +113,7 @@ def _pieces_of(term, names):
     """Return the texts and terms of which the text of a term is made; new variables get names."""
     kind = term[0]
     if kind == "fn":
-        return ["(fn (" + _name_variables(term[1], names) + ") ", term[2], ")"]
+        return ["(fn (" + names.give(term[1]) + ") ", term[2], ")"]
     if kind == "call":
         return _spaced("(", (term[1], *term[2]))
     if kind == "if":
@@ -112,9 +127,9 @@ def _pieces_of(term, names):
     return [_show_leaf(term, names)]
 
 
-def show_term(term):
-    """Return the shown term."""
-    names = {}
+def show_named(term, tops):
+    """Return the shown term, with a dict of the names of variables of modules by (module, level, number)."""
+    names = Names(tops)
     texts = []
     left = [term]
     while left:
@@ -124,3 +139,8 @@ def show_term(term):
         else:
             left.extend(_pieces_of(piece, names)[::-1])
     return "".join(texts)
+
+
+def show_term(term):
+    """Return the shown term."""
+    return show_named(term, {})

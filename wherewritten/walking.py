@@ -47,23 +47,42 @@ def _with_sets_here(term, change, by):
     return term
 
 
-def with_sets(term, change, by):
-    """Return a term in whose syntax a function of each set and of something else gave the new set."""
+def with_parts(term, parts):
+    """Return a term with other terms in it, as many as it has, in the order of parts_of_term."""
     kind = term[0]
     if kind == "fn":
-        return ("fn", term[1], with_sets(term[2], change, by))
-    if kind == "rec":
-        pairs = []
-        for number, part in term[1]:
-            pairs.append((number, with_sets(part, change, by)))
-        return ("rec", tuple(pairs), with_sets(term[2], change, by))
-    parts = []
-    for part in parts_of_term(term):
-        parts.append(with_sets(part, change, by))
+        return ("fn", term[1], parts[0])
     if kind == "call":
         return ("call", parts[0], tuple(parts[1:]), term[3])
     if kind == "do":
         return ("do", tuple(parts))
     if kind in ("if", "set"):
         return (kind, *parts)
-    return _with_sets_here(term, change, by)
+    if kind == "rec":
+        pairs = [(pair[0], part) for pair, part in zip(term[1], parts)]
+        return ("rec", tuple(pairs), parts[-1])
+    return term
+
+
+def rebuilt(term, change):
+    """Return what a function makes of a term, the parts of which it has changed before, and so on."""
+    made = []
+    # The terms that are left, the next on top, and whether their parts are made.
+    left = [(term, False)]
+    while left:
+        part, is_ready = left.pop()
+        parts = parts_of_term(part)
+        if parts and not is_ready:
+            left.append((part, True))
+            left.extend([(inner, False) for inner in parts[::-1]])
+            continue
+        start = len(made) - len(parts)
+        given = made[start:]
+        del made[start:]
+        made.append(change(with_parts(part, given)))
+    return made[0]
+
+
+def with_sets(term, change, by):
+    """Return a term in whose syntax a function of each set and of something else gave the new set."""
+    return rebuilt(term, lambda part: _with_sets_here(part, change, by))

@@ -3,11 +3,12 @@
 import unittest
 
 from helper import artifacts_of, made_of, outcome, seeded, values_of
+from wherewritten.arrows import all_fixed, group
 from wherewritten.calling import called_otherwise, compile_all
 from wherewritten.compiling import compile_module
 from wherewritten.library import library
-from wherewritten.linking import run
-from wherewritten.reading import is_name
+from wherewritten.linking import program, run
+from wherewritten.reading import is_name, spelled
 from wherewritten.store import Store
 
 OFFERS = {
@@ -333,6 +334,19 @@ class TestForms(LibraryCase):
             kept = [name for name in group if name not in " ".join(OFFERS.values()).split() and name not in ("def", "defmac", "use")]
             self.check(" ".join(f"(def {name} 1)" for name in kept) + self.USES, self.GIVEN)
 
+    def test_words_and_primitives_as_names(self):
+        names = """if let fn do quote set letrec cons first rest same? syntax rules match fill join wrap letmac list list? empty?
+            = + - < not""".split()
+        pairs = " ".join(f"({name} {at})" for at, name in enumerate(names))
+        wanted = {
+            "(and if let)": "1", "(or #f do)": "3", "(cond (#f 1) (else quote))": "4", "(case 5 ((4 5) set))": "5", "(case if ((5) 1) (else fn))": "2",
+            "(let* ((x fn) (y x)) y)": "2", "(loop f ((n cons)) n)": "7", "(let-list (a b) l b)": "5", "(pipe x list x)": "18",
+            "(each x l x)": "(4 5)", "(times x 2 x)": "(0 1)", "(list-of x (from x l))": "(4 5)", "(sum-of x (from x l))": "9",
+            "(when if rest)": "9", "(unless #f first)": "8", "(length l)": "2", "(reverse l)": "(5 4)", "(let* () (swap if let) if)": "1"}
+        for form, value in wanted.items():
+            self.check(f"(def l '(4 5)) (let ({pairs}) {form})", value)
+        self.check(f"(def two (fn (a b) (list a b))) (let ({pairs}) (record 1 make is? (if get)) (two (get (make rest)) (is? (make if))))", "(9 #t)")
+
     def test_other_names(self):
         text = """(use (rename logic (and both) (or one-of) (cond choose) (case pick)) (rename binding (let* lets) (loop go)) (rename lists (length many)
             (map all)) (rename loops (list-of those) (each for)) (rename records (record kind)))
@@ -374,13 +388,19 @@ class TestForms(LibraryCase):
 
     def test_called_otherwise(self):
         texts = {**library(), "m": "(use loops logic) (list-of (cond ((= x 1) 5) (else x)) (from x '(1 2)))"}
-        places = [(name, place) for name, place in (("m", 5), ("m", 15), ("m", 18))]
-        artifacts = {made.artifact()[1]: made.artifact() for made in compile_all(texts)}
-        for place in places:
-            told = outcome(called_otherwise, texts, place, "zz")
-            if told[0] == "gives":
-                again = {made.artifact()[1]: made.artifact() for made in compile_all(told[1])}
-                self.assertEqual(run(again, "m", 10000), run(artifacts, "m", 10000))
+        made = compile_all(texts)
+        before = {compiled.artifact()[1]: compiled.artifact() for compiled in made}
+        fixed, named = all_fixed(made), {}
+        for place, (start, end) in spelled(texts["m"])[0].items():
+            if any(member in fixed for member in group(made, ("m", place))):
+                continue
+            named[texts["m"][start:end]] = True
+            told = called_otherwise(texts, ("m", place), "zz")
+            again = {compiled.artifact()[1]: compiled.artifact() for compiled in compile_all(told)}
+            self.assertEqual(program(again, "m"), program(before, "m"))
+            self.assertEqual(run(again, "m", 10000), [("m", "(5 2)")])
+        # Also what a part of a form is told by: these are the same names in the library.
+        self.assertLessEqual({"list-of", "cond", "x", "else", "from"}, set(named))
 
     def test_steps_and_depth(self):
         """Long forms are few steps, and not deep."""
